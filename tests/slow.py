@@ -1,0 +1,192 @@
+"""Slow ways for the tests: trying, counting, walking. They use nothing of the program."""
+
+
+def nested(depth):
+    """Return a tuple that is nested so deep."""
+    value = ()
+    for _ in range(depth - 1):
+        value = (value,)
+    return value
+
+
+# Values that are no integer, no row, no form, no matrix and no discriminant.
+ODD_VALUES = (
+    None, True, False, "", "1", "D", (), [], (None,), (True,), [1], [1, 2, 3], (1, 2), (1, 2, 3, 4), (1, "2", 3),
+    (1, True, 6), (True, 1, 6), (1, 1, True), (1, None, 6), ((1,), 1, 6), [1, 1, 6], (1, 2, 1), (0, 0, 0), (-1, 1, -6),
+    ((1, 0), (0, 1), (0, 0)), ((1, 0),), [(1, 0), (0, 1)], ([1, 0], (0, 1)), ((1, 0), [0, 1]), ((True, 0), (0, 1)),
+    ((1, 0), (0, True)), ((1, False), (0, 1)), ((1, 0), (0, -1)), ((1, 0, 0), (0, 1)), ((1, 0), (0, 1, 0)),
+    ((2, 0), (0, 1)), ((1, "0"), (0, 1)), nested(60), ValueError("value"),
+)
+
+
+def gcd(a, b):
+    """Return the greatest common divisor, by trying."""
+    a, b = abs(a), abs(b)
+    if 0 in (a, b):
+        return a + b
+    return max(d for d in range(1, min(a, b) + 1) if a % d == 0 and b % d == 0)
+
+
+def is_prime(n):
+    """Tell a prime by trying all divisors up to the root."""
+    return n >= 2 and all(n % d for d in range(2, int(n ** 0.5) + 2) if d < n)
+
+
+def factors(n):
+    """Return the pairs of the primes and how often they divide n, by trying."""
+    found = []
+    d = 2
+    while d * d <= n:
+        k = 0
+        while n % d == 0:
+            n //= d
+            k += 1
+        if k:
+            found.append((d, k))
+        d += 1
+    if n > 1:
+        found.append((n, 1))
+    return tuple(found)
+
+
+def divisors(n):
+    """Return all divisors of n, by trying."""
+    return [d for d in range(1, n + 1) if n % d == 0]
+
+
+def is_square(n):
+    """Tell a square by walking."""
+    r = 0
+    while r * r < n:
+        r += 1
+    return r * r == n
+
+
+def floor_root(n):
+    """Return the root of n by halving."""
+    low, high = 0, n + 1
+    while high - low > 1:
+        middle = (low + high) // 2
+        if middle * middle <= n:
+            low = middle
+        else:
+            high = middle
+    return low
+
+
+def sign(a, n):
+    """Return (a / n) by its definition: squares modulo each prime factor."""
+    if n == 0:
+        return 1 if a in (1, -1) else 0
+    result = -1 if n < 0 and a < 0 else 1
+    for p, k in factors(abs(n)):
+        if p == 2:
+            part = 0 if a % 2 == 0 else 1 if a % 8 in (1, 7) else -1
+        elif a % p == 0:
+            part = 0
+        else:
+            part = 1 if any((x * x - a) % p == 0 for x in range(1, p)) else -1
+        result *= part ** k
+    return result
+
+
+def disc(f):
+    """Return b^2 - 4 a c."""
+    return f[1] * f[1] - 4 * f[0] * f[2]
+
+
+def at(f, x, y):
+    """Return the value of a form."""
+    return f[0] * x * x + f[1] * x * y + f[2] * y * y
+
+
+def move(f, m):
+    """Move a form: its values at three pairs tell the moved one."""
+    (p, q), (r, s) = m
+    a, c = at(f, p, r), at(f, q, s)
+    return (a, at(f, p + q, r + s) - a - c, c)
+
+
+def times(m, n):
+    """Return the product of two matrices."""
+    return tuple(tuple(sum(row[k] * n[k][j] for k in range(2)) for j in range(2)) for row in m)
+
+
+def det(m):
+    """Return the determinant of a matrix of two rows."""
+    return m[0][0] * m[1][1] - m[0][1] * m[1][0]
+
+
+def content(f):
+    """Return the greatest common divisor of three integers other than 0, 0, 0."""
+    return max(d for d in range(1, max(map(abs, f)) + 1) if not any(item % d for item in f))
+
+
+def is_discriminant(D):
+    """Tell a discriminant by its definition."""
+    return D % 4 in (0, 1) and not (D >= 0 and floor_root(D) ** 2 == D)
+
+
+def reduced(D):
+    """Return all reduced forms of D below 0 by the loop of point 4.4."""
+    found = []
+    a = 1
+    while 3 * a * a <= -D:
+        for b in range(1 - a, a + 1):
+            if (b * b - D) % (4 * a) == 0:
+                c = (b * b - D) // (4 * a)
+                if c > a or (c == a and b >= 0):
+                    found.append((a, b, c))
+        a += 1
+    return sorted(found)
+
+
+def on_cycle(f):
+    """Tell a form on a cycle by the conditions of point 5.1."""
+    a, b, c = f
+    s = floor_root(disc(f))
+    return 1 <= b <= s and 2 * abs(a) + b >= s + 1 and 2 * abs(a) - b <= s
+
+
+def step(f):
+    """Return the form that the step leads to, and the turn, by trying all b'."""
+    a, b, c = f
+    s = floor_root(disc(f))
+    size = abs(c)
+    low, high = (1 - size, size) if size > s else (s + 1 - 2 * size, s)
+    told = [x for x in range(low, high + 1) if (x + b) % (2 * size) == 0]
+    assert len(told) == 1
+    t = (b + told[0]) // (2 * c)
+    return move(f, ((0, -1), (1, t))), t
+
+
+def cycle(f):
+    """Return the cycle of a form, as a list from it on."""
+    found = [f]
+    g, _ = step(f)
+    while g != f:
+        found.append(g)
+        g, _ = step(g)
+    return found
+
+
+def cycles(D):
+    """Return the cycles of all primitive forms of D above 0, each from its least form on."""
+    s = floor_root(D)
+    forms = []
+    for b in range(1, s + 1):
+        for a in range(-s, s + 1):
+            if a and (b * b - D) % (4 * a) == 0:
+                f = (a, b, (b * b - D) // (4 * a))
+                if on_cycle(f) and content(f) == 1:
+                    forms.append(f)
+    found = {tuple(cycle(min(cycle(f)))) for f in forms}
+    return sorted(found)
+
+
+def fundamental(D):
+    """Return (D0, f) by trying all f, the greatest one first."""
+    for f in range(abs(D), 0, -1):
+        if D % (f * f) == 0 and is_discriminant(D // (f * f)):
+            return D // (f * f), f
+    return None

@@ -1,0 +1,75 @@
+"""The examples of the interface, answer by answer."""
+
+import doctest
+import unittest
+
+EXAMPLES = {
+    "whole": """
+>>> from classledger.whole import common_divisor, exact_power, inverse, joined, kronecker, root
+>>> common_divisor(-12, 18), root(80, 2), exact_power(64)
+(6, 8, (2, 6))
+
+>>> inverse(3, 7), inverse(2, 4), kronecker(-23, 2), kronecker(5, 3), kronecker(-4, -1)
+(5, None, 1, -1, -1)
+
+>>> joined(((2, 3), (3, 5))), joined(((1, 4), (3, 6))), joined(((1, 4), (2, 6)))
+((8, 15), (9, 12), None)
+""",
+    "rows": """
+>>> from classledger.rows import bar, kernel, order_modulo, smith_divisors, solve, span
+>>> span(((2, 4), (3, 1)), 2), kernel(((2, 4), (3, 6)), 2)
+(((1, 7), (0, 10)), ((3, -2),))
+
+>>> solve(((2, 0), (0, 3)), 2, (4, 3)), bar(((2, 0), (0, 3)), 2, (4, 3)) is None
+((2, 1), True)
+
+>>> order_modulo(((2, 0), (0, 3)), 2, (1, 1)), smith_divisors(((2, 0), (0, 3)), 2)
+(6, (1, 6))
+""",
+    "primes": """
+>>> from classledger.primes import divisor_sum, divisors_of, factors, is_prime, next_prime, root_of_order
+>>> is_prime(1000003), next_prime(100), factors(360)
+(True, 101, ((2, 3), (3, 2), (5, 1)))
+
+>>> divisors_of(12), divisor_sum(12, 1), divisor_sum(12, 0), root_of_order(3, 7)
+((1, 2, 3, 4, 6, 12), 28, 6, 2)
+""",
+    "proofs": """
+>>> from classledger.proofs import factors_paper, prime_paper
+>>> prime_paper(7), prime_paper(91), factors_paper(12)
+(('small',), ('factor', 7), ('factors', ((2, 2, ('small',)), (3, 1, ('small',)))))
+""",
+    "squares": """
+>>> from classledger.squares import square_roots, told_pairs, two_squares, ways_three, ways_two
+>>> square_roots(4, 15), square_roots(-1, 12), square_roots(0, 8)
+((2, 7, 8, 13), (), (0, 4))
+
+>>> told_pairs(1, 25), told_pairs(2, 9), told_pairs(23, 59)
+(((0, 5), (3, 4), (4, 3), (5, 0)), ((1, 2), (3, 0)), ((6, 1),))
+
+>>> ways_two(25), ways_three(3), two_squares(50), two_squares(21)
+(12, 8, ('squares', 1, 7), ('none', 3, 1, ('small',)))
+""",
+    "forms": """
+>>> from classledger.forms import discriminant, inverse_matrix, moved_form, principal_form, value_at
+>>> discriminant((2, 1, 3)), value_at((2, 1, 3), 1, -2), principal_form(-23), principal_form(40)
+(-23, 12, (1, 1, 6), (1, 0, -10))
+
+>>> moved_form((10, 8, 3), ((0, -1), (1, 1))), inverse_matrix(((0, -1), (1, 1)))
+((3, -2, 5), ((1, 1), (-1, 0)))
+""",
+}
+
+
+class Examples(unittest.TestCase):
+    def test_examples(self):
+        for name, text in EXAMPLES.items():
+            test = doctest.DocTestParser().get_doctest(text, {}, name, None, 0)
+            told = []
+            result = doctest.DocTestRunner(verbose=False).run(test, out=told.append)
+            self.assertGreater(result.attempted, 1)
+            self.assertEqual(result.failed, 0, "".join(told))
+
+
+if __name__ == "__main__":
+    unittest.main()

@@ -1,0 +1,203 @@
+"""Rules of the language subset that can be read off the files of the package."""
+
+import ast
+import builtins
+import pathlib
+import unittest
+
+PACKAGE = pathlib.Path(__file__).resolve().parent.parent / "classledger"
+FILES = sorted(PACKAGE.rglob("*.py"))
+
+LIBRARY = {"math": {"gcd", "lcm", "isqrt", "comb", "perm", "factorial"},
+           "heapq": {"heappush", "heappop", "heapify", "heapreplace", "heappushpop"},
+           "collections": {"defaultdict", "deque"}}
+BUILTINS = set(
+    "len range enumerate zip min max sum abs sorted reversed int str bool list tuple dict set isinstance ord repr any "
+    "all divmod iter next map type Exception ValueError TypeError KeyError IndexError LookupError ZeroDivisionError "
+    "ArithmeticError OverflowError RuntimeError NotImplementedError StopIteration NotImplemented property "
+    "staticmethod classmethod super".split())
+METHODS = set(
+    "append clear copy count endswith extend find get index insert isalnum isalpha isdigit islower isspace isupper "
+    "items join keys ljust lower lstrip partition pop remove replace reverse rfind rjust rpartition rsplit rstrip "
+    "setdefault split splitlines startswith strip update upper values zfill bit_length title capitalize swapcase "
+    "casefold center expandtabs removeprefix removesuffix rindex isascii isdecimal isnumeric istitle isidentifier "
+    "isprintable add discard sort popleft appendleft".split())
+BARRED = set("mro elements open input law version_info with_traceback add_note register breakpoint compile dir eval exec "
+             "exit gc globals help importlib locals os quit sys vars delattr getattr setattr hasattr".split())
+WORDS = set("typing enum Enum IntEnum StrEnum Flag IntFlag Generic Protocol ABC ABCMeta namedtuple NamedTuple "
+            "TypedDict abstractmethod dataclass".split())
+STATEMENTS = (
+    ast.FunctionDef, ast.ClassDef, ast.Return, ast.Delete, ast.Assign, ast.AugAssign, ast.AnnAssign, ast.For, ast.While,
+    ast.If, ast.With, ast.Raise, ast.Try, ast.Assert, ast.ImportFrom, ast.Nonlocal, ast.Expr, ast.Pass, ast.Break,
+    ast.Continue, ast.Match)
+TAKERS = {"list", "tuple", "dict", "sorted", "sum", "min", "max", "any", "all"}
+
+
+def trees():
+    """Yield the path, the text and the tree of each file."""
+    for path in FILES:
+        text = path.read_text(encoding="utf-8")
+        yield path, text, ast.parse(text)
+
+
+def bound_names(function):
+    """Return the parameters and local variables of a function."""
+    told = [part.arg for part in ast.walk(function.args) if isinstance(part, ast.arg)]
+    return told + [part.id for part in ast.walk(function)
+                   if isinstance(part, ast.Name) and isinstance(part.ctx, ast.Store)]
+
+
+class Files(unittest.TestCase):
+    def test_names_and_characters(self):
+        self.assertTrue(FILES)
+        for path in PACKAGE.rglob("*"):
+            if path.is_file() and "__pycache__" not in path.parts:
+                self.assertEqual(path.suffix, ".py")
+        for path, text, _ in trees():
+            self.assertTrue(path.stem.islower() and path.stem.replace("_", "").isalnum(), path)
+            self.assertTrue(all(" " <= sign <= "~" or sign == "\n" for sign in text), path)
+
+    def test_init_defines_nothing(self):
+        tree = ast.parse((PACKAGE / "__init__.py").read_text())
+        self.assertEqual([part for part in tree.body if not isinstance(part, ast.Expr)], [])
+
+    def test_sizes(self):
+        for path, text, tree in trees():
+            lines = text.splitlines()
+            self.assertLessEqual(len(lines), 399, path)
+            self.assertLessEqual(max(map(len, lines), default=0), 120, path)
+            for part in ast.walk(tree):
+                if isinstance(part, ast.FunctionDef):
+                    self.assertLessEqual(part.end_lineno - part.lineno + 1, 40, (path, part.name))
+
+
+class Modules(unittest.TestCase):
+    def test_imports(self):
+        for path, _, tree in trees():
+            at_top = True
+            for part in tree.body:
+                if isinstance(part, ast.ImportFrom):
+                    self.assertTrue(at_top, path)
+                elif not (isinstance(part, ast.Expr) and isinstance(part.value, ast.Constant)):
+                    at_top = False
+            for part in ast.walk(tree):
+                self.assertNotIsInstance(part, ast.Import)
+                if isinstance(part, ast.ImportFrom):
+                    self.check_import(path, part)
+
+    def check_import(self, path, part):
+        self.assertEqual(part.level, 0)
+        names = [alias.name for alias in part.names]
+        self.assertFalse([alias for alias in part.names if alias.asname or alias.name == "*"])
+        if part.module in LIBRARY:
+            self.assertLessEqual(set(names), LIBRARY[part.module], path)
+            return
+        self.assertTrue(part.module.startswith("classledger."), path)
+        source = ast.parse((PACKAGE.parent / (part.module.replace(".", "/") + ".py")).read_text())
+        own = [row.name for row in source.body if isinstance(row, (ast.FunctionDef, ast.ClassDef))]
+        own += [row.targets[0].id for row in source.body if isinstance(row, ast.Assign)]
+        self.assertLessEqual(set(names), set(own), path)
+
+    def test_no_circles(self):
+        edges = {}
+        for path, _, tree in trees():
+            edges["classledger." + path.stem] = [part.module for part in tree.body if isinstance(part, ast.ImportFrom)]
+        left = dict(edges)
+        while left:
+            free = [name for name in left if not any(module in left for module in left[name])]
+            self.assertTrue(free, left)
+            for name in free:
+                del left[name]
+
+    def test_module_level(self):
+        for path, _, tree in trees():
+            names = []
+            for part in tree.body:
+                if isinstance(part, ast.Expr):
+                    self.assertIsInstance(part.value, ast.Constant)
+                elif isinstance(part, ast.Assign):
+                    self.assertEqual(len(part.targets), 1)
+                    names.append(part.targets[0].id)
+                    self.assertFalse([row for row in ast.walk(part.value) if isinstance(row, ast.Call)], path)
+                elif isinstance(part, ast.ImportFrom):
+                    names.extend(alias.name for alias in part.names)
+                else:
+                    self.assertIsInstance(part, (ast.FunctionDef, ast.ClassDef))
+                    names.append(part.name)
+            self.assertEqual(len(names), len(set(names)), path)
+
+
+class Names(unittest.TestCase):
+    def test_names(self):
+        # The examples leave a "_" among the builtins.
+        every = set(dir(builtins)) - {"_"}
+        for path, _, tree in trees():
+            taken = {part.name for part in tree.body if isinstance(part, ast.ClassDef)}
+            taken |= {alias.name for part in tree.body if isinstance(part, ast.ImportFrom) for alias in part.names}
+            for part in ast.walk(tree):
+                if isinstance(part, ast.FunctionDef):
+                    self.assertEqual(part.decorator_list, [])
+                    told = set(bound_names(part))
+                    self.assertFalse(told & (every | taken | BARRED | WORDS), (path, part.name, told))
+                    self.assertFalse(part.name in every | BARRED | WORDS, (path, part.name))
+                if isinstance(part, ast.Name) and part.id in every:
+                    self.assertIn(part.id, BUILTINS, path)
+                if isinstance(part, ast.Name):
+                    self.assertFalse(part.id.startswith("__"), path)
+                if isinstance(part, ast.Attribute):
+                    self.assertNotIn(part.attr, BARRED | WORDS)
+
+    def test_methods(self):
+        own = {part.name for _, _, tree in trees() for part in ast.walk(tree) if isinstance(part, ast.FunctionDef)}
+        for path, _, tree in trees():
+            for part in ast.walk(tree):
+                if isinstance(part, ast.Call) and isinstance(part.func, ast.Attribute):
+                    self.assertIn(part.func.attr, METHODS | own, path)
+
+
+class Parts(unittest.TestCase):
+    def test_statements_and_expressions(self):
+        for path, _, tree in trees():
+            for part in ast.walk(tree):
+                if isinstance(part, ast.stmt):
+                    self.assertIsInstance(part, STATEMENTS, (path, part.lineno))
+                self.assertNotIsInstance(part, (ast.Div, ast.MatMult, ast.Await, ast.YieldFrom), path)
+                if isinstance(part, ast.Constant):
+                    self.assertNotIsInstance(part.value, (float, complex), path)
+
+    def test_exponents(self):
+        for path, _, tree in trees():
+            for part in ast.walk(tree):
+                if isinstance(part, ast.BinOp) and isinstance(part.op, ast.Pow):
+                    self.assertIsInstance(part.right, ast.Constant, path)
+                    self.assertTrue(0 <= part.right.value <= 64, path)
+
+    def test_strings(self):
+        for path, _, tree in trees():
+            told = {id(part.value) for part in ast.walk(tree) if isinstance(part, ast.Expr)}
+            for part in ast.walk(tree):
+                if isinstance(part, ast.Constant) and isinstance(part.value, str) and id(part) not in told:
+                    self.assertNotIn("%", part.value, path)
+
+    def test_calls(self):
+        for path, _, tree in trees():
+            loose = [part for part in ast.walk(tree) if isinstance(part, ast.GeneratorExp)]
+            for part in ast.walk(tree):
+                if isinstance(part, ast.Call) and isinstance(part.func, ast.Name) and part.func.id in TAKERS:
+                    loose = [row for row in loose if row not in part.args]
+                if isinstance(part, ast.Call) and isinstance(part.func, ast.Name) and part.func.id in BUILTINS:
+                    self.assertFalse([row for row in part.args if isinstance(row, ast.Starred)
+                                      and part.func.id not in ("min", "max", "zip")], path)
+            self.assertEqual(loose, [], path)
+
+    def test_sets_are_not_iterated(self):
+        for path, _, tree in trees():
+            for part in ast.walk(tree):
+                if isinstance(part, (ast.For, ast.comprehension)):
+                    self.assertNotIsInstance(part.iter, (ast.Set, ast.SetComp), path)
+                    called = isinstance(part.iter, ast.Call) and isinstance(part.iter.func, ast.Name)
+                    self.assertFalse(called and part.iter.func.id == "set", path)
+
+
+if __name__ == "__main__":
+    unittest.main()
