@@ -90,11 +90,16 @@ def value_at(f, x, y):
     return told_value(f, x, y)
 
 
+def told_content(f):
+    """Return the greatest common divisor of three integers of any size."""
+    a, b, c = f
+    return gcd(gcd(a, b), c)
+
+
 def content(f):
     """Return the content of a form."""
     check_form(f)
-    a, b, c = f
-    return gcd(gcd(a, b), c)
+    return told_content(f)
 
 
 def is_primitive(f):

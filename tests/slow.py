@@ -1,5 +1,7 @@
 """Slow ways for the tests: trying, counting, walking. They use nothing of the program."""
 
+import math
+
 
 def nested(depth):
     """Return a tuple that is nested so deep."""
@@ -118,8 +120,8 @@ def det(m):
 
 
 def content(f):
-    """Return the greatest common divisor of three integers other than 0, 0, 0."""
-    return max(d for d in range(1, max(map(abs, f)) + 1) if not any(item % d for item in f))
+    """Return the greatest common divisor of three integers."""
+    return math.gcd(*f)
 
 
 def is_discriminant(D):

@@ -58,6 +58,68 @@ EXAMPLES = {
 >>> moved_form((10, 8, 3), ((0, -1), (1, 1))), inverse_matrix(((0, -1), (1, 1)))
 ((3, -2, 5), ((1, 1), (-1, 0)))
 """,
+    "definite": """
+>>> from classledger.definite import class_number, hurwitz, is_reduced, reduced_form, reduced_forms, self_maps, value_pairs
+>>> reduced_form((10, 8, 3))[0], is_reduced((2, -2, 3)), is_reduced((2, 2, 3))
+((3, -2, 5), False, True)
+
+>>> reduced_forms(-23), reduced_forms(-12), class_number(-12)
+(((1, 1, 6), (2, -1, 3), (2, 1, 3)), ((1, 0, 3), (2, 2, 2)), 1)
+
+>>> [hurwitz(n) for n in (0, 1, 3, 4, 7, 8, 11, 12, 15, 16, 23)]
+[-1, 0, 4, 6, 12, 12, 12, 16, 24, 18, 36]
+
+>>> len(self_maps((3, 3, 3))), self_maps((1, 0, 1))
+(6, (((-1, 0), (0, -1)), ((0, -1), (1, 0)), ((0, 1), (-1, 0)), ((1, 0), (0, 1))))
+
+>>> value_pairs((1, 0, 1), 5), value_pairs((2, 1, 3), 5)
+(((-2, -1), (-2, 1), (-1, -2), (-1, 2), (1, -2), (1, 2), (2, -1), (2, 1)), ())
+""",
+    "cycles": """
+>>> from classledger.cycles import all_cycles, cycle_of, is_on_cycle, lead_in, next_form, turns_of
+>>> next_form((3, 10, -5)), is_on_cycle((3, 10, -5)), is_on_cycle((1, 6, -1))
+(((-5, 10, 3), -2), True, True)
+
+>>> cycle_of((3, 4, -2)), turns_of((3, 4, -2))
+(((3, 4, -2), (-2, 4, 3), (3, 2, -3), (-3, 4, 2), (2, 4, -3), (-3, 2, 3)), (-2, 1, -1, 2, -1, 1))
+
+>>> all_cycles(12), lead_in((1, 0, -10))
+((((-2, 2, 1), (1, 2, -2)), ((-1, 2, 2), (2, 2, -1))), ((1, 6, -1), ((-1, -3), (0, -1))))
+""",
+    "units": """
+>>> from classledger.units import least_unit, minus_unit, narrow_number, unit_power, wide_number
+>>> least_unit(61), minus_unit(61), least_unit(28), minus_unit(28)
+((1523, 195), (39, 5), (16, 3), None)
+
+>>> unit_power(5, 2), narrow_number(60), wide_number(60), narrow_number(229), wide_number(229)
+((7, 3), 4, 2, 3, 3)
+""",
+    "same": """
+>>> from classledger.same import equivalence, told_form
+>>> told_form((10, 8, 3))[0], told_form((3, 4, -2))[0], equivalence((2, 1, 3), (2, -1, 3)) is None
+((3, -2, 5), (-3, 2, 3), True)
+""",
+    "values": """
+>>> from classledger.values import told_values, value_roots
+>>> value_roots(-23, 6), value_roots(40, -1), [b for b, x, y in told_values((2, 1, 3), 6)]
+((1, 5, 7, 11), (0,), [7])
+""",
+    "compose": """
+>>> from classledger.compose import composing_rows, composition
+>>> composition((1, 3, 3, 0), (0, 2, 2, 1))
+((2, 1, 3), (2, 1, 3), (4, -11, 9))
+
+>>> composition(*composing_rows((1, 0, 5), (2, 2, 3)))[:2]
+((1, 0, 5), (2, 2, 3))
+""",
+    "signs": """
+>>> from classledger.signs import fundamental, number_by_conductor, number_by_signs, pairs_by_signs, sign_sum
+>>> fundamental(-12), fundamental(180), sign_sum(-23), number_by_signs(-23)
+((-3, 2), (5, 6), -69, 3)
+
+>>> number_by_conductor(-92), number_by_conductor(-27), number_by_conductor(45), pairs_by_signs(-23, 6)
+(3, 1, 2, 8)
+""",
 }
 
 

@@ -214,7 +214,8 @@ class Papers(unittest.TestCase):
     def test_bounds(self):
         for function in (two_squares, three_squares, four_squares):
             function(10 ** 12)
-            refused(self, "large", function, 10 ** 12 + 1)
+            for n in (10 ** 12 + 1, 3 * 10 ** 12, 7 * 10 ** 12, 10 ** 40):
+                refused(self, "large", function, n)
 
 
 if __name__ == "__main__":
