@@ -9,7 +9,7 @@ MOST_DIGITS = 4000
 
 # exact_power tries the primes below 2^TRIED_BITS before it takes roots.
 TRIED_BITS = 10
-TRIED_BELOW = 1 << TRIED_BITS
+TRIED_BELOW = 1024
 
 # Below this many bits halving an interval needs fewer steps than Newton's way.
 HALVED_BITS = 32
