@@ -22,6 +22,8 @@ def square_roots(a, m):
     """Return the ascending tuple of the roots of a modulo m."""
     _check_size(m, LARGEST)
     parts = _root_parts(a, m)
+    if parts is None:
+        return ()
     many = m
     for rests, step in parts:
         many = many * len(rests) // step
@@ -31,8 +33,15 @@ def square_roots(a, m):
 
 
 def _root_parts(a, m):
-    """Return the roots for each power of a prime in m, as _power_roots tells them."""
-    return [_power_roots(a, l, k) for l, k in factors(m)]
+    """Return the roots for each power of a prime in m, as _power_roots tells them, or None."""
+    parts = []
+    for l, k in factors(m):
+        part = _power_roots(a, l, k)
+        # No root modulo one of the powers: there is none modulo m, whatever the others have.
+        if not part[0]:
+            return None
+        parts.append(part)
+    return parts
 
 
 def _put_together(parts, m):
@@ -61,6 +70,14 @@ def _power_roots(a, l, k):
     factor = raised(l, times // 2)
     rests = _unit_roots_two(a, k - times) if l == 2 else _unit_roots(a, l, k - times)
     return [factor * b for b in rests], raised(l, k - times // 2)
+
+
+def roots_modulo_prime(a, l):
+    """Return the ascending list of the roots of a modulo an odd prime."""
+    a %= l
+    if a == 0:
+        return [0]
+    return sorted(_unit_roots(a, l, 1))
 
 
 def _unit_roots(a, l, k):
@@ -99,7 +116,7 @@ def _root_modulo_prime(a, l):
     b = power(a, (odd + 1) // 2, l)
     # b^2 is a times left, whose order is a power of 2; turn has the greatest such order.
     left = power(a, odd, l)
-    turn = power(_nonsquare(l), odd, l)
+    turn = power(nonsquare(l), odd, l)
     while left != 1:
         times, x = 0, left
         while x != 1:
@@ -113,7 +130,7 @@ def _root_modulo_prime(a, l):
     return b
 
 
-def _nonsquare(l):
+def nonsquare(l):
     """Return the least integer from 2 on that is no square modulo an odd prime."""
     a = 2
     while kronecker(a, l) != -1:
@@ -156,8 +173,11 @@ def _primitive_pairs(d, m):
     """Return the pairs (x, y) of told_pairs without common divisor, in any order."""
     if m == 1:
         return [(1, 0), (0, 1)] if d == 1 else [(1, 0)]
+    parts = _root_parts(-d, m)
+    if parts is None:
+        return []
     found = set()
-    for b in _put_together(_root_parts(-d, m), m):
+    for b in _put_together(parts, m):
         before, x = m, b
         while x * x > m:
             before, x = x, before % x

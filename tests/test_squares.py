@@ -1,7 +1,9 @@
 """Points 3.1 to 3.5."""
 
 import itertools
+import math
 import random
+import signal
 import unittest
 
 from classledger.proofs import prime_paper
@@ -64,6 +66,45 @@ class Roots(unittest.TestCase):
         refused(self, "large", square_roots, 0, 10 ** 14)
         # There are many roots modulo 10^10, none modulo 3.
         self.assertEqual(square_roots(2 * 10 ** 10, 3 * 10 ** 10), ())
+
+
+class NoRoots(unittest.TestCase):
+    """Moduli so great that only an answer that does not walk over them comes in time."""
+
+    def setUp(self):
+        def late(*_):
+            raise AssertionError("no answer in time")
+        self.addCleanup(signal.signal, signal.SIGALRM, signal.signal(signal.SIGALRM, late))
+        self.addCleanup(signal.alarm, 0)
+        signal.alarm(60)
+
+    def test_powers_of_two(self):
+        for k in (6, 20, 24, 38, 39):
+            for e in range(k):
+                for u in (1, 3, 5, 7, 2 ** 40 + 5, -3):
+                    if e % 2 or u % min(8, 2 ** (k - e)) != 1:
+                        self.assertEqual(square_roots(u * 2 ** e, 2 ** k), (), (u, e, k))
+
+    def test_powers_of_odd_primes(self):
+        for l, k in ((3, 25), (5, 17), (7, 14), (101, 5), (97, 6), (9973, 3), (999983, 2)):
+            nonsquare = [a for a in range(2, l) if pow(a, (l - 1) // 2, l) == l - 1][0]
+            for e in range(k):
+                for u in (1, 2, nonsquare, nonsquare - l):
+                    if e % 2 or u in (nonsquare, nonsquare - l):
+                        self.assertEqual(square_roots(u * l ** e, l ** k), (), (u, l, e, k))
+                        self.assertEqual(square_roots(u * l ** e + 7 * l ** k, l ** k), ())
+
+    def test_beside_many_roots(self):
+        # Modulo one part there are very many roots, modulo another one none.
+        for a, m in ((5 * 2 ** 36, 2 ** 36 * 7), (2 * 10 ** 10, 5 * 10 ** 10), (12, 2 ** 20 * 3 ** 12),
+                     (3 ** 11, 2 * 3 ** 12), (2 ** 18 * 3 ** 11, 2 ** 18 * 3 ** 12), (2 ** 17 * 3 ** 12, 2 ** 18 * 3 ** 12)):
+            self.assertEqual(square_roots(a, m), (), (a, m))
+
+    def test_pairs(self):
+        for d, m in ((2, 2 ** 39), (2, 2 ** 38), (1, 2 ** 39), (3, 101 ** 5), (3, 3 ** 25), (1, 3 ** 25), (5, 7 ** 13),
+                     (2, 5 ** 17), (10, 10 ** 12), (7, 9973 ** 3), (2 ** 19, 2 ** 39), (3 ** 11, 3 ** 24)):
+            told = [(math.isqrt(m - d * y * y), y) for y in range(math.isqrt(m // d) + 1)]
+            self.assertEqual(told_pairs(d, m), tuple(sorted((x, y) for x, y in told if x * x + d * y * y == m)))
 
 
 class Pairs(unittest.TestCase):
