@@ -35,6 +35,16 @@ def check_pair(f, g):
 def composing_rows(f, g):
     """Return a pair of rows that composes two primitive forms of one discriminant."""
     check_pair(f, g)
+    return _rows_of(f, g)
+
+
+def composed_form(f, g):
+    """Return a composition of two primitive forms of one discriminant, for items of any size."""
+    return _composed(*_rows_of(f, g))[2]
+
+
+def _rows_of(f, g):
+    """Return the rows of composing_rows, for items of any size."""
     a, b, c = f
     d, e, k = g
     R = (b + e) // 2

@@ -3,8 +3,9 @@
 from math import gcd
 
 from classledger.errors import Malformed, Refused
+from classledger.primes import factors
 from classledger.rows import is_row
-from classledger.whole import is_integer, is_square
+from classledger.whole import is_integer, is_square, raised
 
 # The items of a form are below it in amount: they have at most 60 digits.
 ITEM_BOUND = 10 ** 60
@@ -135,9 +136,25 @@ def inverse_matrix(m):
     return ((s, -q), (-r, p))
 
 
+def told_principal(D):
+    """Return the principal form of a discriminant, with items of any size."""
+    return (1, D % 2, (D % 2 - D) // 4)
+
+
 def principal_form(D):
     """Return the principal form of a discriminant."""
     check_discriminant(D)
-    form = (1, D % 2, (D % 2 - D) // 4)
+    form = told_principal(D)
     check_items(form)
     return form
+
+
+def split_discriminant(D):
+    """Return (D0, f) with D = D0 f^2 and a fundamental D0."""
+    f = 1
+    for p, k in factors(abs(D)):
+        f *= raised(p, k // 2)
+    # What is left may be 2 or 3 modulo 4, and then needs a factor 4 back.
+    if D // (f * f) % 4 > 1:
+        f //= 2
+    return D // (f * f), f

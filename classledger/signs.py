@@ -2,10 +2,10 @@
 
 from classledger.definite import class_number
 from classledger.errors import Malformed, Refused
-from classledger.forms import check_discriminant
+from classledger.forms import check_discriminant, split_discriminant
 from classledger.primes import divisors_of, factors
 from classledger.units import least_unit, narrow_number
-from classledger.whole import is_integer, kronecker, raised
+from classledger.whole import is_integer, kronecker
 
 LARGEST = 10 ** 12
 LARGEST_CONDUCTED = 1000000
@@ -13,23 +13,12 @@ LARGEST_SUMMED = 100000
 LARGEST_VALUE = 1000000
 
 
-def _split(D):
-    """Return the fundamental discriminant and the f of a discriminant."""
-    f = 1
-    for p, k in factors(abs(D)):
-        f *= raised(p, k // 2)
-    # What is left may be 2 or 3 modulo 4, and then needs a factor 4 back.
-    if D // (f * f) % 4 > 1:
-        f //= 2
-    return D // (f * f), f
-
-
 def fundamental(D):
     """Return (D0, f) with D = D0 f^2 and a fundamental D0."""
     check_discriminant(D)
     if abs(D) > LARGEST:
         raise Refused("large")
-    return _split(D)
+    return split_discriminant(D)
 
 
 def is_fundamental(D):
@@ -42,7 +31,7 @@ def _units(D):
     return {-3: 6, -4: 4}.get(D, 2)
 
 
-def _check_negative(D):
+def check_negative(D):
     """Raise Malformed if the value is no discriminant below 0."""
     check_discriminant(D)
     if D > 0:
@@ -59,7 +48,7 @@ def _check_summed(D):
 
 def sign_sum(D):
     """Return the sum of n (D / n) over all n from 1 to -D - 1."""
-    _check_negative(D)
+    check_negative(D)
     _check_summed(D)
     return sum([n * kronecker(D, n) for n in range(1, -D)])
 
@@ -75,7 +64,7 @@ def number_by_conductor(D):
     check_discriminant(D)
     if abs(D) > LARGEST_CONDUCTED:
         raise Refused("large")
-    D0, f = _split(D)
+    D0, f = split_discriminant(D)
     number = f
     for l, _ in factors(f):
         number = number // l * (l - kronecker(D0, l))
@@ -98,7 +87,7 @@ def _least_power(D, f):
 
 def pairs_by_signs(D, n):
     """Return how many pairs give the reduced forms of D the value n, told by the divisors of n."""
-    _check_negative(D)
+    check_negative(D)
     if not is_integer(n) or n < 1:
         raise Malformed("no value")
     if n > LARGEST_VALUE:

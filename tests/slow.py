@@ -192,3 +192,119 @@ def fundamental(D):
         if D % (f * f) == 0 and is_discriminant(D // (f * f)):
             return D // (f * f), f
     return None
+
+
+def near(f):
+    """Return a form that is reduced, or on a cycle, and equivalent to a form, in small steps."""
+    if disc(f) > 0:
+        while not on_cycle(f):
+            f, _ = step(f)
+        return f
+    a, b, c = f
+    while not (-a < b <= a < c or 0 <= b <= a == c):
+        while b > a:
+            a, b, c = a, b - 2 * a, a - b + c
+        while b <= -a:
+            a, b, c = a, b + 2 * a, a + b + c
+        if a > c or (a == c and b < 0):
+            a, b, c = c, -b, a
+    return (a, b, c)
+
+
+def told(f):
+    """Return the told form of a form with small items."""
+    g = near(f)
+    return g if disc(f) < 0 else min(cycle(g))
+
+
+def principal(D):
+    """Return the principal form."""
+    return (1, D % 2, (D % 2 - D) // 4)
+
+
+def product(f, g):
+    """Return the told form of the product of two classes, by forms whose first items have no common divisor."""
+    D, a = disc(f), f[0]
+    for x in range(40):
+        for y in range(-40, 40):
+            if math.gcd(x, y) == 1 and math.gcd(at(g, x, y), a) == 1:
+                r, s = next((r, s) for r in range(-41, 42) for s in range(-41, 42) if x * s - r * y == 1)
+                k, b, _ = move(g, ((x, r), (y, s)))
+                B = f[1]
+                while (B - b) % (2 * k):
+                    B += 2 * a
+                return told((a * k, B, (B * B - D) // (4 * a * k)))
+    raise AssertionError("no value")
+
+
+def primitive(D):
+    """Return the told forms of all classes of D, ascending."""
+    if D > 0:
+        return [told[0] for told in cycles(D)]
+    return [f for f in reduced(D) if content(f) == 1]
+
+
+def signs(D):
+    """Return the signs of D as point 6.6 tells them."""
+    found = [l if l % 4 == 1 else -l for l, _ in factors(abs(D)) if l != 2]
+    if D % 4 == 0:
+        m = D // 4 % 8
+        found += {3: [-4], 4: [-4], 7: [-4], 2: [8], 6: [-8], 0: [-4, 8]}.get(m, [])
+    return tuple(sorted(found))
+
+
+def genera(f, most):
+    """Return the set of all genera that the values of a form at small pairs tell."""
+    D = disc(f)
+    values = {at(f, x, y) for x in range(-most, most + 1) for y in range(-most, most + 1)}
+    return {tuple(sign(d, v) for d in signs(D)) for v in values if v > 0 and math.gcd(v, 2 * D) == 1}
+
+
+def points(curve):
+    """Return all points of a curve, by trying all pairs."""
+    p, a, b = curve
+    return ((),) + tuple((x, y) for x in range(p) for y in range(p) if (y * y - x ** 3 - a * x - b) % p == 0)
+
+
+def curves(p):
+    """Return all curves over a prime, by the condition of point 8.1."""
+    return [(p, a, b) for a in range(p) for b in range(p) if (4 * a ** 3 + 27 * b ** 2) % p]
+
+
+def added(curve, P, Q):
+    """Return the sum of two points, told by the line through them."""
+    p, a, _ = curve
+    if () in (P, Q):
+        return P or Q
+    (x, y), (u, v) = P, Q
+    if x == u and (y + v) % p == 0:
+        return ()
+    s = (v - y) * pow(u - x, -1, p) if x != u else (3 * x * x + a) * pow(2 * y, -1, p)
+    w = (s * s - x - u) % p
+    return (w, (s * (x - w) - y) % p)
+
+
+def negated(curve, P):
+    """Return the negative of a point."""
+    return (P[0], -P[1] % curve[0]) if P else ()
+
+
+def multiplied(curve, k, P):
+    """Return a multiple of a point, for a small k from 0 on, one sum after the other."""
+    T = ()
+    for _ in range(k):
+        T = added(curve, T, P)
+    return T
+
+
+def order(curve, P):
+    """Return the order of a point, by walking."""
+    k, T = 1, P
+    while T:
+        k, T = k + 1, added(curve, T, P)
+    return k
+
+
+def least_nonsquare(p):
+    """Return the least integer from 2 on that is no square modulo a prime."""
+    return next(d for d in range(2, p) if all((x * x - d) % p for x in range(p)))

@@ -120,6 +120,131 @@ EXAMPLES = {
 >>> number_by_conductor(-92), number_by_conductor(-27), number_by_conductor(45), pairs_by_signs(-23, 6)
 (3, 1, 2, 8)
 """,
+    "classes": """
+>>> from classledger.classes import class_group, class_list, class_order, class_power, class_product, class_relations, prime_forms
+>>> class_product((2, 1, 3), (2, 1, 3)), class_power((2, 1, 3), -1), class_order((2, 1, 3))
+((2, -1, 3), (2, -1, 3), 3)
+
+>>> class_list(-84), class_group(-260)[0], class_group(40)
+(((1, 0, 21), (2, 2, 11), (3, 0, 7), (5, 4, 5)), (2, 4), ((2,), ((-3, 2, 3),)))
+
+>>> prime_forms(-84), class_relations(-84), prime_forms(12), class_relations(12)
+(((2, 2, 11), (3, 0, 7), (5, 4, 5)), ((1, 1, 1), (0, 2, 0), (0, 0, 2)), ((-1, 0, 3),), ((2,),))
+""",
+    "genera": """
+>>> from classledger.genera import all_genera, class_root, genus_of, signs_of
+>>> signs_of(-84), genus_of((2, 2, 11)), signs_of(40), all_genera(40)
+((-7, -4, -3), (1, -1, -1), (5, 8), (((-1, -1), ((-3, 2, 3),)), ((1, 1), ((-1, 6, 1),))))
+
+>>> class_root((2, 1, 3)), class_root((2, 2, 11))
+((2, -1, 3), None)
+""",
+    "products": """
+>>> from classledger.products import half_factorial, product_modulo, unit_modulo
+>>> product_modulo(5, 11), unit_modulo(5, 11, 4), half_factorial(23)
+((4, 9), 9, 1)
+""",
+    "sums": """
+>>> from classledger.sums import greater_sum, square_sum, turn_sum
+>>> turn_sum(-3, -4), square_sum(2), greater_sum(2)
+(2, 48, 48)
+""",
+    "curves": """
+>>> from classledger.curves import all_points, point_multiple, point_sum, twist_of
+>>> point_sum((7, 1, 1), (0, 1), (0, 1)), point_multiple((7, 1, 1), 5, (0, 1))
+((2, 5), ())
+
+>>> all_points((5, 1, 0))
+((), (0, 0), (2, 0), (3, 0))
+
+>>> twist_of((7, 1, 1))
+(7, 2, 6)
+""",
+    "orders": """
+>>> from classledger.orders import curve_trace, point_count, point_order
+>>> point_count((7, 1, 1)), curve_trace((7, 1, 1)), point_order((7, 1, 1), (0, 1))
+(5, 3, 5)
+
+>>> point_count((10007, 3, 5))
+10125
+""",
+    "pairing": """
+>>> from classledger.pairing import weil_pairing
+>>> weil_pairing((5, 1, 0), 2, (0, 0), (2, 0)), weil_pairing((5, 1, 0), 2, (0, 0), (0, 0))
+(4, 1)
+""",
+    "groups": """
+>>> from classledger.groups import point_combination, point_logarithm, point_structure, row_of_point
+>>> point_structure((5, 1, 0)), point_structure((10007, 3, 5))
+((2, 2), (1, 10125))
+
+>>> row_of_point((5, 1, 0), ((0, 0), 2, (2, 0), 2), (3, 0))
+(1, 1)
+
+>>> point_logarithm((7, 1, 1), (0, 1), (2, 5)), point_logarithm((5, 1, 0), (0, 0), (2, 0))
+(2, None)
+
+>>> point_combination((5, 1, 0), ((0, 0),), (3, 0)) is None
+True
+""",
+    "alike": """
+>>> from classledger.alike import alike_change, curve_invariant, curve_of, curve_turns, told_curve
+>>> curve_turns((7, 0, 1)), curve_turns((7, 1, 0)), curve_turns((7, 1, 1)), curve_invariant((7, 1, 1))
+(6, 2, 2, 1)
+
+>>> told_curve((7, 2, 6)), alike_change((7, 1, 1), (7, 2, 1)), alike_change((7, 1, 1), (7, 2, 6))
+((7, 1, 6), 2, None)
+
+>>> curve_of(101, -3375)
+(101, 91, 27)
+""",
+    "census": """
+>>> from classledger.census import curve_census, curve_structures, curves_with, rational_traces
+>>> curve_census(5)[:3], len(curve_census(5))
+(((0, 1, 2, 0), (0, 2, 2, 0), (1, 0, 4, 2)), 12)
+
+>>> [curves_with(7, t) for t in range(6)], curve_structures(7, 0)
+([6, 4, 6, 3, 4, 1], (((1, 8), 3), ((2, 4), 3)))
+
+>>> rational_traces(-7, 11), rational_traces(-3, 7), rational_traces(-4, 7)
+((-4, 4), (-5, -4, -1, 1, 4, 5), (0,))
+""",
+    "members": """
+>>> from classledger.members import joining_value, member_inverse, member_product, nonsquare_of
+>>> nonsquare_of(7), member_product(7, (1, 2), (3, 1)), member_inverse(7, (0, 1))
+(3, (2, 0), (0, 5))
+
+>>> joining_value(13, 2, (5, 0), (5, 0)), joining_value(13, 3, (5, 0), (5, 0))
+((0, 0), (0, 0))
+""",
+    "graphs": """
+>>> from classledger.graphs import brandt_table, curve_mark, edge_table, graph_distance, graph_walk, loops_by_classes, member_weight, supersingular_members
+>>> supersingular_members(37), edge_table(37, 2)
+(((3, 10), (3, 27), (8, 0)), ((0, 2, 1), (2, 0, 1), (1, 1, 1)))
+
+>>> [member_weight(11, j) for j in supersingular_members(11)], edge_table(11, 2), brandt_table(11, 4)
+([3, 2], ((0, 3), (2, 1)), ((4, 3), (2, 5)))
+
+>>> loops_by_classes(37, 2), loops_by_classes(11, 4)
+(1, 9)
+
+>>> graph_walk(37, 2, (3, 10), (8, 0))
+((3, 10), (8, 0))
+
+>>> curve_mark(7, 1, 1)
+3
+""",
+    "level": """
+>>> from classledger.level import coordinates, delta, dimension, echelon, eisenstein
+>>> delta(6)
+(0, 1, -24, 252, -1472, 4830)
+
+>>> dimension(24), echelon(24, 5)
+(3, ((1, 0, 0, 52416000, 39007332000), (0, 1, 0, 195660, 12080128), (0, 0, 1, -48, 1080)))
+
+>>> coordinates(eisenstein(8, 10), 8), eisenstein(4, 4)
+((1,), (1, 240, 2160, 6720))
+""",
 }
 
 
