@@ -151,19 +151,19 @@ def class_group(D):
     told = {known[f]: f for f in known}
     orders = []
     generators = []
-    for order, row in _rounds(space):
+    for order, row in rounds_of(space):
         if order > 1:
             orders.append(order)
             generators.append(told[rest(space, row)])
     return tuple(orders), tuple(generators)
 
 
-def _rounds(space):
+def rounds_of(space):
     """Return the pairs of a divisor of a square table and a row that has it as order modulo the table."""
     table = [list(row) for row in space]
     size = len(table)
     # The rows of back are the new unit rows, told in the old ones.
-    back = [[1 if k == at else 0 for k in range(size)] for at in range(size)]
+    back = [[1 if i == at else 0 for i in range(size)] for at in range(size)]
     for k in range(size):
         _clear(table, back, k)
     return [(abs(table[k][k]), tuple(back[k])) for k in range(size)]

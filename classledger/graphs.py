@@ -1,6 +1,5 @@
 """Graphs of supersingular invariants: members, tables, loops and walks."""
 
-from collections import deque
 from math import comb
 
 from classledger.alike import curve_of
@@ -42,7 +41,8 @@ def _told_root(p, d, polynomial):
 
 def _other_roots(p, d, j, known):
     """Return the two roots of F_2(x, j) beside a known one."""
-    (_, b, c), _ = divided(p, d, joining_polynomial(p, d, 2, j), known)
+    quotient, _ = divided(p, d, joining_polynomial(p, d, 2, j), known)
+    _, b, c = quotient
     minus = multiple_in(p, -1, b)
     s = member_root(p, d, sum_in(p, times_in(p, d, b, b), multiple_in(p, -4, c)))
     half = inverse(2, p)
@@ -62,7 +62,8 @@ def _all_members(p):
         waiting.append(known)
     while len(found) < number:
         j = waiting.pop()
-        for k in _other_roots(p, d, j, found[j]):
+        roots = _other_roots(p, d, j, found[j])
+        for k in roots:
             if k not in found:
                 found[k] = j
                 waiting.append(k)
@@ -172,11 +173,9 @@ def brandt_table(p, n):
 
 
 def _loops(p, n):
-    """Return 24 H_p(n)."""
+    """Return 24 H_p(n) for an integer n from 0 on that is 0 or 3 modulo 4."""
     if n == 0:
         return p - 1
-    if n % 4 in (1, 2):
-        return 0
     E, c = fundamental(-n)
     if c % p == 0:
         return _loops(p, n // (p * p))
@@ -208,13 +207,15 @@ def graph_walk(p, l, j, k):
     neighbours = _neighbours(p, l, members)
     # From k on, so that each item knows the next one of the walk.
     ahead = {k: None}
-    waiting = deque([k])
+    layer = [k]
     while j not in ahead:
-        u = waiting.popleft()
-        for v in neighbours[u]:
-            if v not in ahead:
-                ahead[v] = u
-                waiting.append(v)
+        later = []
+        for u in layer:
+            for v in neighbours[u]:
+                if v not in ahead:
+                    ahead[v] = u
+                    later.append(v)
+        layer = later
     walk = [j]
     while ahead[walk[-1]] is not None:
         walk.append(ahead[walk[-1]])

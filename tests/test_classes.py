@@ -5,8 +5,9 @@ import random
 import unittest
 
 from classledger.classes import (
-    class_group, class_list, class_order, class_power, class_product, class_relations, class_row, prime_forms)
-from classledger.rows import determinant, is_row, smith_divisors
+    class_group, class_list, class_order, class_power, class_product, class_relations, class_row, prime_forms,
+    rounds_of)
+from classledger.rows import determinant, is_row, order_modulo, smith_divisors, span
 from tests import slow
 from tests.test_forms import NO_DISCRIMINANTS, NO_FORMS, malformed, random_matrix
 from tests.test_primes import refused
@@ -190,6 +191,22 @@ class Groups(unittest.TestCase):
             for g in slow.cycle(f):
                 self.assertEqual(class_row(group, g), class_row(group, f))
         self.assertEqual(class_row(((), ()), (1, 1, 41)), ())
+
+    def test_rounds_of_any_lattice(self):
+        chance = random.Random(7)
+        for _ in range(400):
+            size = chance.randint(1, 5)
+            table = tuple(tuple(chance.choice((0, 0, 1, 2, 3, 4, 6, -9, 10, 12)) for _ in range(size)) for _ in range(size))
+            if determinant(table) == 0:
+                continue
+            space = span(table, size)
+            told = rounds_of(space)
+            self.assertEqual(tuple(order for order, _ in told), smith_divisors(table, size))
+            for order, row in told:
+                self.assertEqual(order_modulo(space, size, row), order)
+            # The rows and the lattice span all rows, so they are generators.
+            units = tuple(tuple(int(i == k) for k in range(size)) for i in range(size))
+            self.assertEqual(span(space + tuple(row for _, row in told), size), units)
 
     def test_great_groups(self):
         for D in (-99991, -99999, -99960, -100000, 99996, 99985, 99960, 98280):

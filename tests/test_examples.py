@@ -1,7 +1,10 @@
 """The examples of the interface, answer by answer."""
 
 import doctest
+import pathlib
 import unittest
+
+README = pathlib.Path(__file__).resolve().parent.parent / "README.md"
 
 EXAMPLES = {
     "whole": """
@@ -256,6 +259,11 @@ class Examples(unittest.TestCase):
             result = doctest.DocTestRunner(verbose=False).run(test, out=told.append)
             self.assertGreater(result.attempted, 1)
             self.assertEqual(result.failed, 0, "".join(told))
+
+    def test_readme(self):
+        result = doctest.testfile(str(README), module_relative=False)
+        self.assertGreater(result.attempted, 5)
+        self.assertEqual(result.failed, 0)
 
 
 if __name__ == "__main__":

@@ -64,6 +64,9 @@ class Roots(unittest.TestCase):
         refused(self, "many", square_roots, 0, 10001 ** 2)
         refused(self, "many", square_roots, 0, 10 ** 8 * 9)
         refused(self, "large", square_roots, 0, 10 ** 14)
+        # 1000 roots modulo 10^6, and two for each other prime: 8000, and 16000.
+        self.assertEqual(len(square_roots(1000000 * 463 ** 2, 10 ** 6 * 3 * 7 * 11)), 8000)
+        refused(self, "many", square_roots, 1000000 * 463 ** 2, 10 ** 6 * 3 * 7 * 11 * 13)
         # There are many roots modulo 10^10, none modulo 3.
         self.assertEqual(square_roots(2 * 10 ** 10, 3 * 10 ** 10), ())
 
