@@ -40,7 +40,8 @@ def composing_rows(f, g):
 
 def composed_form(f, g):
     """Return a composition of two primitive forms of one discriminant, for items of any size."""
-    return _composed(*_rows_of(f, g))[2]
+    p, q = _rows_of(f, g)
+    return _composed(p, q)[2]
 
 
 def _rows_of(f, g):

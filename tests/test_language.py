@@ -47,6 +47,22 @@ def bound_names(function):
                    if isinstance(part, ast.Name) and isinstance(part.ctx, ast.Store)]
 
 
+def named(value):
+    """Tell whether an expression is a name or an attribute off a name."""
+    while isinstance(value, ast.Attribute):
+        value = value.value
+    return isinstance(value, ast.Name)
+
+
+def starred(value):
+    """Tell whether an expression may stand behind the star of a call."""
+    if isinstance(value, (ast.List, ast.Tuple)):
+        return all(map(starred, value.elts))
+    if isinstance(value, ast.Dict):
+        return all(map(starred, value.keys + value.values))
+    return isinstance(value, ast.Constant) or named(value)
+
+
 class Files(unittest.TestCase):
     def test_names_and_characters(self):
         self.assertTrue(FILES)
@@ -189,6 +205,22 @@ class Parts(unittest.TestCase):
                     self.assertFalse([row for row in part.args if isinstance(row, ast.Starred)
                                       and part.func.id not in ("min", "max", "zip")], path)
             self.assertEqual(loose, [], path)
+
+    def test_stars(self):
+        """Behind a star and beside ** of a call stand names, attributes off a name, and written values alone."""
+        for path, _, tree in trees():
+            for part in ast.walk(tree):
+                if isinstance(part, ast.Call):
+                    for value in [row.value for row in part.args if isinstance(row, ast.Starred)]:
+                        self.assertTrue(starred(value), (path, part.lineno))
+                    for value in [row.value for row in part.keywords if row.arg is None]:
+                        self.assertTrue(named(value), (path, part.lineno))
+
+    def test_stars_are_told(self):
+        for text, fits in (("x", True), ("x.y", True), ("(x, 1)", True), ("[x, (1, x.y)]", True), ("{1: x}", True),
+                           ("g(x)", False), ("x[0]", False), ("(x, g(x))", False), ("x + y", False),
+                           ("[a for a in x]", False), ("g(x).y", False), ("x if y else z", False)):
+            self.assertEqual(starred(ast.parse(text, mode="eval").body), fits, text)
 
     def test_sets_are_not_iterated(self):
         for path, _, tree in trees():
