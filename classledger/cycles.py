@@ -35,7 +35,7 @@ def _root_of(f):
     return root(told_discriminant(f), 2)
 
 
-def _fits(f, s):
+def fits(f, s):
     """Return True if a form whose discriminant has the root s is on a cycle."""
     a, b, _ = f
     return 1 <= b <= s and 2 * abs(a) + b > s and 2 * abs(a) - b <= s
@@ -44,7 +44,7 @@ def _fits(f, s):
 def is_on_cycle(f):
     """Return True if the indefinite form is on a cycle."""
     check_indefinite(f)
-    return _fits(f, _root_of(f))
+    return fits(f, _root_of(f))
 
 
 def step_from(f, s):
@@ -75,7 +75,7 @@ def lead(f):
     """Return the first form on a cycle from f on and the matrix to it, for items of any size."""
     s = _root_of(f)
     m = UNIT_MATRIX
-    while not _fits(f, s):
+    while not fits(f, s):
         f, t = step_from(f, s)
         m = with_turn(m, t)
     return f, m

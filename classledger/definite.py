@@ -25,13 +25,18 @@ def _check_counted(D):
         raise Refused("large")
 
 
-def is_reduced(f):
-    """Return True if the definite form is reduced."""
-    check_definite(f)
+def told_reduced(f):
+    """Return True if a definite form with items of any size is reduced."""
     a, b, c = f
     if abs(b) > a or a > c:
         return False
     return b >= 0 or (abs(b) < a < c)
+
+
+def is_reduced(f):
+    """Return True if the definite form is reduced."""
+    check_definite(f)
+    return told_reduced(f)
 
 
 def reduction(f):

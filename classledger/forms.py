@@ -108,14 +108,19 @@ def is_primitive(f):
     return content(f) == 1
 
 
+def told_moved(f, m):
+    """Return three integers of any size moved by a matrix."""
+    a, b, c = f
+    (p, q), (r, s) = m
+    middle = 2 * a * p * q + b * (p * s + q * r) + 2 * c * r * s
+    return (told_value(f, p, r), middle, told_value(f, q, s))
+
+
 def moved_form(f, m):
     """Return the form moved by a matrix."""
     check_form(f)
     check_matrix(m)
-    a, b, c = f
-    (p, q), (r, s) = m
-    middle = 2 * a * p * q + b * (p * s + q * r) + 2 * c * r * s
-    moved = (told_value(f, p, r), middle, told_value(f, q, s))
+    moved = told_moved(f, m)
     check_items(moved)
     return moved
 

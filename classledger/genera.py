@@ -11,7 +11,7 @@ from classledger.whole import kronecker
 EVEN_SIGNS = ((-4, 8), (), (8,), (-4,), (-4,), (), (-8,), (-4,))
 
 
-def _signs(D):
+def told_signs(D):
     """Return the ascending tuple of the signs of a discriminant."""
     found = [l if l % 4 == 1 else -l for l, _ in factors(abs(D)) if l > 2]
     if D % 4 == 0:
@@ -23,26 +23,32 @@ def signs_of(D):
     """Return the tuple of the signs of D."""
     check_discriminant(D)
     check_listed(D)
-    return _signs(D)
+    return told_signs(D)
 
 
-def free_value(f, n):
-    """Return a value above 0 that has no common divisor with n, of a form that is reduced or on a cycle."""
+def free_pair(f, n):
+    """Return a pair at which a form, reduced or on a cycle, has a value above 0 without common divisor with n."""
     size = 1
     while True:
         for x in range(size + 1):
             for y in range(-size, size + 1):
                 v = told_value(f, x, y)
                 if v > 0 and gcd(v, n) == 1:
-                    return v
+                    return x, y
         size += 1
+
+
+def free_value(f, n):
+    """Return the value at the pair of free_pair."""
+    x, y = free_pair(f, n)
+    return told_value(f, x, y)
 
 
 def _genus(f):
     """Return the genus of a form that is reduced or on a cycle."""
     D = told_discriminant(f)
     v = free_value(f, 2 * D)
-    return tuple([kronecker(d, v) for d in _signs(D)])
+    return tuple([kronecker(d, v) for d in told_signs(D)])
 
 
 def genus_of(f):

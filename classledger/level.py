@@ -94,7 +94,7 @@ def echelon(k, size):
     return tuple([form[:size] for form in forms])
 
 
-def _parted(f, k):
+def parted(f, k):
     """Return the row of the multiples that the first items of a series tell, and what they leave of it."""
     check_weight(k)
     check_series(f)
@@ -110,13 +110,13 @@ def _parted(f, k):
 
 def coordinates(f, k):
     """Return the coordinates of a series, or None if it does not go with the weight k."""
-    row, left = _parted(f, k)
+    row, left = parted(f, k)
     return None if any(left) else row
 
 
 def first_unlike(f, k):
     """Return the first index at which a series is not what its first items tell, or None."""
-    _, left = _parted(f, k)
+    _, left = parted(f, k)
     for at, item in enumerate(left):
         if item:
             return at

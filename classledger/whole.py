@@ -7,6 +7,9 @@ from classledger.errors import NoText
 DIGITS = "0123456789"
 MOST_DIGITS = 4000
 
+# No integer of at most 4000 digits has more bits, and none with so many has many more digits.
+MOST_BITS = 13288
+
 # exact_power tries the primes below 2^TRIED_BITS before it takes roots.
 TRIED_BITS = 10
 TRIED_BELOW = 1024
@@ -195,6 +198,15 @@ def read_integer(text):
     if not isinstance(text, str) or not _is_written(text):
         raise NoText(0)
     return int(text)
+
+
+def written(n):
+    """Return the written form of an integer, None for one of more than 4000 digits."""
+    # Python itself writes no integers of very many digits.
+    if n.bit_length() > MOST_BITS:
+        return None
+    text = str(n)
+    return text if len(text.removeprefix("-")) <= MOST_DIGITS else None
 
 
 def _is_written(text):

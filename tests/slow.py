@@ -308,3 +308,76 @@ def order(curve, P):
 def least_nonsquare(p):
     """Return the least integer from 2 on that is no square modulo a prime."""
     return next(d for d in range(2, p) if all((x * x - d) % p for x in range(p)))
+
+
+def divisor_powers(k, n):
+    """Return the sum of the powers d^k of the divisors of n."""
+    return sum(d ** k for d in range(1, n + 1) if n % d == 0)
+
+
+def series_product(f, g):
+    """Return the product of two series of one length, item by item."""
+    return tuple(sum(f[i] * g[n - i] for i in range(n + 1)) for n in range(len(f)))
+
+
+def eisenstein(k, size):
+    """Return the Eisenstein series of the weights 4 and 6, by divisors."""
+    c = {4: 240, 6: -504}[k]
+    return (1,) + tuple(c * divisor_powers(k - 1, n) for n in range(1, size))
+
+
+def series_power(f, n):
+    """Return the power of a series, one product after the other."""
+    result = (1,) + (0,) * (len(f) - 1)
+    for _ in range(n):
+        result = series_product(result, f)
+    return result
+
+
+def taus(most):
+    """Return tau(0) = 0, tau(1), .., by the product of all (1 - q^n)^24."""
+    items = [1] + [0] * most
+    for n in range(1, most + 1):
+        for _ in range(24):
+            for at in range(most, n - 1, -1):
+                items[at] -= items[at - n]
+    return [0] + items[:most]
+
+
+def hurwitz(n):
+    """Return 12 H(n), form by form."""
+    if n == 0:
+        return -1
+    if n < 0 or n % 4 in (1, 2):
+        return 0
+    return sum(4 if a == b == c else 6 if a == c and b == 0 else 12 for a, b, c in reduced(-n))
+
+
+def trace_number(k, t, n):
+    """Return P_k(t, n), the item at k - 2 of the series 1 / (1 - t x + n x^2)."""
+    items = [1]
+    while len(items) < k - 1:
+        items.append(t * items[-1] - (n * items[-2] if len(items) > 1 else 0))
+    return items[k - 2]
+
+
+def determinant(rows):
+    """Return the determinant, by the items of the first row."""
+    if not rows:
+        return 1
+    return sum((-1) ** j * rows[0][j] * determinant([row[:j] + row[j + 1:] for row in rows[1:]])
+               for j in range(len(rows)) if rows[0][j])
+
+
+def matrix_times(one, two):
+    """Return the product of two square matrices of one size."""
+    size = range(len(one))
+    return tuple(tuple(sum(one[i][k] * two[k][j] for k in size) for j in size) for i in size)
+
+
+def code_words(code, n):
+    """Return the set of all words of a code, sum by sum."""
+    words = {(0,) * n}
+    for row in code:
+        words |= {tuple((a + b) % 2 for a, b in zip(word, row)) for word in words}
+    return words

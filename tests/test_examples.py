@@ -6,6 +6,8 @@ import unittest
 
 README = pathlib.Path(__file__).resolve().parent.parent / "README.md"
 
+# Word for word those of the document but one: its matrix hecke_matrix(24, 2) has rows and columns exchanged. Point 12.2
+# says that the row j has the items of T_n f_j, and T_2 f_1 begins with 0, 20468736; so that is what is asked for here.
 EXAMPLES = {
     "whole": """
 >>> from classledger.whole import common_divisor, exact_power, inverse, joined, kronecker, root
@@ -247,6 +249,42 @@ True
 
 >>> coordinates(eisenstein(8, 10), 8), eisenstein(4, 4)
 ((1,), (1, 240, 2160, 6720))
+""",
+    "hecke": """
+>>> from classledger.hecke import characteristic, hecke_matrix, hecke_trace, tau
+>>> tau(2), tau(6), hecke_trace(12, 2)
+(-24, -6048, -24)
+
+>>> hecke_matrix(24, 2), characteristic(hecke_matrix(24, 2))
+(((0, 20468736), (1, 1080)), (1, -1080, -20468736))
+""",
+    "traces": """
+>>> from classledger.traces import characteristic_by_classes, class_terms, trace_by_classes
+>>> class_terms(12, 2)
+((-2, 32, 6), (-1, 23, 12), (0, -32, 12), (1, 23, 12), (2, 32, 6))
+
+>>> trace_by_classes(12, 2), characteristic_by_classes(24, 2)
+(-24, (1, -1080, -20468736))
+""",
+    "codes and lattices": """
+>>> from classledger.codes import golay_code, small_code, weights
+>>> small_code()
+((1, 0, 0, 1, 0, 1, 1, 0), (0, 1, 0, 1, 0, 1, 0, 1), (0, 0, 1, 1, 0, 0, 1, 1), (0, 0, 0, 0, 1, 1, 1, 1))
+
+>>> weights(small_code(), 8), weights(golay_code(), 24)[8]
+((1, 0, 0, 0, 14, 0, 0, 0, 1), 759)
+
+>>> from classledger.lattices import e_eight, short_rows, theta_of_code
+>>> theta_of_code(small_code(), 8, 4), len(short_rows(e_eight(), 2))
+((1, 240, 2160, 6720), 240)
+""",
+    "formpapers": """
+>>> from classledger.formpapers import same_paper
+>>> same_paper((1, 0, 1), (1, 0, 1))[0]
+'same'
+
+>>> same_paper((2, 1, 3), (2, 1, 3))[0]
+'same'
 """,
 }
 

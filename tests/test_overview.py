@@ -4,6 +4,9 @@ import copy
 import importlib
 import unittest
 
+UNIT = ((1, 0), (0, 1))
+SMALL_CODE = ((1, 0, 0, 1, 0, 1, 1, 0), (0, 1, 0, 1, 0, 1, 0, 1), (0, 0, 1, 1, 0, 0, 1, 1), (0, 0, 0, 0, 1, 1, 1, 1))
+
 # One call of each function of the interface, with lists where the document lets them stand.
 CALLS = {
     "whole": (("is_integer", 5), ("common_divisor", 12, 18), ("combination", 12, 18), ("root", 80, 2),
@@ -65,6 +68,27 @@ CALLS = {
                ("euler_product", 5, 24)),
     "level": (("eisenstein", 4, 5), ("delta", 5), ("dimension", 24), ("generators", 24, 5), ("echelon", 24, 5),
               ("coordinates", (1, 240, 2160), 4), ("first_unlike", (1, 240, 2161), 4), ("form_of", (1, 2), 12, 5)),
+    "hecke": (("operated", (1, 240, 2160, 6720), 2, 4), ("hecke_matrix", 24, 2), ("hecke_trace", 24, 2),
+              ("power_traces", 24, 2, 3), ("characteristic", [(0, 1), (2, 3)]), ("from_traces", (1, 3)), ("tau", 6)),
+    "traces": (("weight_number", 12, 1, 2), ("class_side", 12, 2), ("class_terms", 12, 2), ("trace_by_classes", 12, 2),
+               ("dimension_by_classes", 12), ("characteristic_by_classes", 24, 2)),
+    "codes": (("is_code", ((1, 1),), 2), ("code_of", [(1, 1, 0), (1, 0, 1)], 3), ("weights", ((1, 1),), 2),
+              ("is_doubly_even", ((1, 1, 1, 1),), 4), ("is_self_dual", ((1, 1),), 2), ("small_code",), ("pair_code", 16),
+              ("golay_code",), ("sum_of_codes", ((1, 1),), 2, ((1, 1),), 2)),
+    "lattices": (("theta_of_code", SMALL_CODE, 8, 4), ("roots_of_code", SMALL_CODE, 8), ("parts_of_roots", SMALL_CODE, 8),
+                 ("is_table", ((2, 1), (1, 2))), ("norm", ((2, 1), (1, 2)), (1, -3)), ("short_rows", ((2, 1), (1, 2)), 8),
+                 ("theta_of_table", ((2, 1), (1, 2)), 5), ("e_eight",)),
+    "primechecker": (("takes_prime", 91, ("factor", 7)), ("takes_factors", 7, ("factors", ((7, 1, ("small",)),))),
+                     ("takes_two", 5, ("squares", 1, 2)), ("takes_three", 7, ("none", 0, 0)),
+                     ("takes_four", 7, ("squares", 1, 1, 1, 2))),
+    "formpapers": (("same_paper", (2, 1, 3), (2, -1, 3)), ("value_paper", (2, 1, 3), 6), ("unit_paper", 60),
+                   ("minus_paper", 60), ("classes_paper", -84), ("composed_paper", (2, 1, 3), (2, 1, 3)),
+                   ("square_paper", (2, 2, 11))),
+    "formchecker": (("takes_same", (2, 1, 3), (2, 1, 3), ("same", UNIT)), ("takes_value", (2, 1, 3), 6, ("value", 1, 1)),
+                    ("takes_unit", 12, ("unit", 4, 1, ((-1, -1), (0, -1)), (-1, 2))), ("takes_minus", 5, ("minus", 1, 1)),
+                    ("takes_composed", (1, 0, 1), (1, 0, 1), (1, 0, 1), ("composed", (1, 0, 0, -1), (0, 1, 1, 0), UNIT)),
+                    ("takes_classes", -3, ("classes", (), (), (((1, 1, 1), (), UNIT),), ())),
+                    ("takes_square", (2, 2, 11), ("sign", 0, 1, -4))),
 }
 
 
@@ -93,7 +117,7 @@ class Overview(unittest.TestCase):
         for module, calls in CALLS.items():
             space = importlib.import_module("classledger." + module)
             for name, *arguments in calls:
-                if name.startswith("is_") or name == "holds":
+                if name.startswith(("is_", "takes_")) or name == "holds":
                     self.assertIs(getattr(space, name)(*arguments), True, name)
 
 
