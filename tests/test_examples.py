@@ -278,13 +278,35 @@ True
 >>> theta_of_code(small_code(), 8, 4), len(short_rows(e_eight(), 2))
 ((1, 240, 2160, 6720), 240)
 """,
-    "formpapers": """
+    "papers of series and forms": """
+>>> from classledger.seriespapers import goes_paper, trace_paper
+>>> goes_paper((1, 240, 2160, 6720), 4), goes_paper((1, 240, 2160, 6721), 4)
+(('goes', (1,)), ('bar', (1,), 3))
+
+>>> trace_paper(12, 1)
+('trace', 1, ((-2, ()), (-1, ((1, 1, 1),)), (0, ((1, 0, 1),)), (1, ((1, 1, 1),)), (2, ())))
+
 >>> from classledger.formpapers import same_paper
 >>> same_paper((1, 0, 1), (1, 0, 1))[0]
 'same'
+""",
+    "console": """
+>>> from classledger.console import Console
+>>> console = Console()
+>>> console.enter("form f = 2 1 3").text, console.enter("product g f f").text, console.enter("alike f g").text
+('2 1 3', '2 -1 3', 'no')
 
->>> same_paper((2, 1, 3), (2, 1, 3))[0]
-'same'
+>>> console.enter("forms -23").text, console.enter("classes -23").text, console.enter("twelve 23").text
+('3', '3 3', '36')
+
+>>> console.enter("curve e = 7 1 1").kind, console.enter("points e").text, console.enter("order e 0,1").text
+('curve', '5 1 5', '5')
+
+>>> console.enter("unit 61").text, console.enter("minus 28").text, console.enter("prime 91").text
+('1523 195', 'none', 'no')
+
+>>> console.enter("trace 12 2").text, console.enter("goes 4 1 240 2160 6721").text, console.enter("show h").text
+('-24', 'no', 'refused name')
 """,
 }
 

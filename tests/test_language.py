@@ -222,6 +222,51 @@ class Parts(unittest.TestCase):
                            ("[a for a in x]", False), ("g(x).y", False), ("x if y else z", False)):
             self.assertEqual(starred(ast.parse(text, mode="eval").body), fits, text)
 
+    def test_beside_a_class_that_compares(self):
+        """The package has a class with __eq__: no generator expression, and nothing is sorted in its place."""
+        for path, _, tree in trees():
+            for part in ast.walk(tree):
+                self.assertNotIsInstance(part, (ast.GeneratorExp, ast.Lambda, ast.Match, ast.Global), path)
+                if isinstance(part, ast.Attribute):
+                    self.assertNotEqual(part.attr, "sort", path)
+
+    def test_classes(self):
+        for path, _, tree in trees():
+            for part in ast.walk(tree):
+                if isinstance(part, ast.ClassDef):
+                    first, *rows = part.body
+                    self.assertIsInstance(first, ast.Expr, path)
+                    self.assertTrue(all(isinstance(row, ast.FunctionDef) for row in rows), path)
+                    for row in rows:
+                        if row.name.startswith("__"):
+                            self.assertIn(row.name, ("__init__", "__eq__", "__len__", "__iter__"))
+
+    def test_handlers(self):
+        """Own errors alone are caught."""
+        for path, _, tree in trees():
+            for part in ast.walk(tree):
+                if isinstance(part, ast.ExceptHandler):
+                    self.assertIn(part.type.id, ("Fault", "Malformed", "Refused", "NoText"), path)
+
+    def test_sets_are_used_as_told(self):
+        """A stored set is assigned once; it is asked and given members, and nothing else happens to it."""
+        for path, _, tree in trees():
+            for function in [part for part in ast.walk(tree) if isinstance(part, ast.FunctionDef)]:
+                names = [part.targets[0].id for part in ast.walk(function) if isinstance(part, ast.Assign)
+                         and isinstance(part.value, ast.Call) and getattr(part.value.func, "id", "") == "set"]
+                self.assertEqual(len(names), len(set(names)))
+                fits = set()
+                for part in ast.walk(function):
+                    if isinstance(part, ast.Compare) and isinstance(part.ops[0], (ast.In, ast.NotIn)):
+                        fits.add(part.comparators[0])
+                    if isinstance(part, ast.Call) and getattr(part.func, "id", "") in ("len", "sorted"):
+                        fits.update(part.args)
+                    if isinstance(part, ast.Attribute) and part.attr in ("add", "discard"):
+                        fits.add(part.value)
+                for part in ast.walk(function):
+                    if isinstance(part, ast.Name) and part.id in names and isinstance(part.ctx, ast.Load):
+                        self.assertIn(part, fits, (path, part.lineno))
+
     def test_sets_are_not_iterated(self):
         for path, _, tree in trees():
             for part in ast.walk(tree):

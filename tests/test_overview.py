@@ -2,7 +2,13 @@
 
 import copy
 import importlib
+import pathlib
+import re
 import unittest
+
+from classledger.console import Console
+from classledger.errors import Fault
+from classledger.replies import Reply
 
 UNIT = ((1, 0), (0, 1))
 SMALL_CODE = ((1, 0, 0, 1, 0, 1, 1, 0), (0, 1, 0, 1, 0, 1, 0, 1), (0, 0, 1, 1, 0, 0, 1, 1), (0, 0, 0, 0, 1, 1, 1, 1))
@@ -89,36 +95,134 @@ CALLS = {
                     ("takes_composed", (1, 0, 1), (1, 0, 1), (1, 0, 1), ("composed", (1, 0, 0, -1), (0, 1, 1, 0), UNIT)),
                     ("takes_classes", -3, ("classes", (), (), (((1, 1, 1), (), UNIT),), ())),
                     ("takes_square", (2, 2, 11), ("sign", 0, 1, -4))),
+    "curvepapers": (("order_paper", (7, 1, 1), (0, 1)), ("number_paper", (5, 1, 0)), ("log_paper", (5, 1, 0), (0, 0), (2, 0)),
+                    ("alike_paper", (7, 1, 1), (7, 2, 1))),
+    "curvechecker": (("takes_order", (7, 1, 1), (0, 1), ("order", 5, (5,))),
+                     ("takes_number", (7, 1, 1), ("number", ((0, 1), 5, (), 1), ((1, 3), 11, (), 1))),
+                     ("takes_log", (7, 1, 1), (0, 1), (2, 5), ("log", 2)), ("takes_curves", (7, 1, 1), (7, 2, 1), ("same", 2))),
+    "seriespapers": (("goes_paper", (1, 240, 2161), 4), ("trace_paper", 12, 2)),
+    "serieschecker": (("takes_goes", (1, 240, 2160), 4, ("goes", (1,))),
+                      ("takes_trace", 4, 1, ("trace", 0, ((-2, ()), (-1, ((1, 1, 1),)), (0, ((1, 0, 1),)), (1, ((1, 1, 1),)),
+                                                          (2, ()))))),
+    "sheet": (("read_line", "order e 0,1"),),
+    "replies": (("reply_to", {"f": ("form", (2, 1, 3))}, "value f 6"), ("defined", {"e": ("curve", (7, 1, 1))}, "twist e e"),
+                ("is_right", {"f": ("form", (2, 1, 3))}, ("show f", Reply("form", "2 1 3")))),
+    "log": (("write_data", (1, ("a",))), ("read_data", "(1 (a))"), ("write_log", [("x", Reply("error", "text"))]),
+            ("read_log", "> x\n= error text\n# ()\n"), ("first_wrong", [("x", Reply("error", "text")), None])),
+}
+
+# Calls that raise an error, with lists and dicts among their arguments.
+REFUSED = {
+    "forms": (("discriminant", [2, 1, 3]), ("moved_form", (2, 1, 3), [[1, 0], [0, 1]])),
+    "same": (("equivalence", [1, 0, 1], [1, 0, 1]),),
+    "groups": (("point_combination", (5, 1, 0), [(0, 0), [2, 0]], (3, 0)),),
+    "codes": (("code_of", [[1, 0], [0, 1]], 2), ("weights", [(1, 1)], 2)),
+    "lattices": (("short_rows", [[2]], 2), ("theta_of_code", [(1, 1)], 2, 3)),
+    "hecke": (("operated", [1, 2], 2, 4), ("from_traces", (1, 2))),
+    "formpapers": (("same_paper", [2, 1, 3], {}), ("value_paper", (2, 1, 3), [6])),
+    "curvepapers": (("log_paper", (5, 1, 0), [0, 0], {}), ("alike_paper", [7, 1, 1], (7, 2, 1))),
+    "seriespapers": (("goes_paper", [1, 240], 4), ("trace_paper", [12], {})),
+    "sheet": (("read_line", ["show f"]), ("read_line", {"show": "f"})),
+    "log": (("write_data", [1, [2]]), ("write_data", (1, [2], {"a": 1})), ("read_data", ["(1)"]), ("read_log", [""]),
+            ("write_log", [("x", Reply("error", "text", [1, [2]]))]), ("write_log", [("x", Reply("error", ["text"])), {}])),
+}
+
+# Calls with lists and dicts in the place of papers, lines and entries: they tell no, and change nothing.
+BENT = {
+    "primechecker": (("takes_prime", 7, ["small"]), ("takes_factors", 4, ("factors", [[2, 2, ["small"]]])),
+                     ("takes_two", 5, ["squares", 1, 2]), ("takes_three", 7, ["none", 0, 0]), ("takes_four", 4, [{}])),
+    "formchecker": (("takes_same", (2, 1, 3), (2, 1, 3), ("same", [[1, 0], [0, 1]])), ("takes_value", (2, 1, 3), 6, ["value", 1, 1]),
+                    ("takes_unit", 12, ("unit", 4, 1, ((-1, -1), (0, -1)), [-1, 2])), ("takes_minus", 5, ["minus", 1, 1]),
+                    ("takes_classes", -3, ("classes", [], [], [((1, 1, 1), (), UNIT)], []))),
+    "curvechecker": (("takes_order", (7, 1, 1), (0, 1), ("order", 5, [5])), ("takes_curves", (7, 1, 1), (7, 2, 1), ["same", 2])),
+    "serieschecker": (("takes_goes", (1, 240, 2160), 4, ("goes", [1])), ("takes_trace", 4, 1, ("trace", 0, [{}]))),
+    "replies": (("is_right", {"f": ("form", (2, 1, 3))}, ["show f", Reply("form", "2 1 3")]),
+                ("is_right", {}, ("tau 1", Reply("number", "1", [1, [2]]))), ("is_right", {}, {"a": [1]})),
 }
 
 
 def plain(value):
-    """Tell whether a result is made of integers, strings, booleans, None and tuples alone."""
+    """Tell whether a result is made of integers, strings, booleans, None, tuples and replies alone."""
     if type(value) is tuple:
         return all(map(plain, value))
+    if type(value) is Reply:
+        return plain((value.kind, value.text, value.data))
     return value is None or type(value) in (int, str, bool)
+
+
+def calls(table):
+    """Yield each function of a table with its arguments."""
+    for module, rows in table.items():
+        space = importlib.import_module("classledger." + module)
+        for name, *arguments in rows:
+            yield getattr(space, name), arguments
+
+
+def told(value):
+    """Return a value with its kinds, so that True and 1 differ."""
+    if isinstance(value, (tuple, list)):
+        return (type(value), [told(item) for item in value])
+    if isinstance(value, dict):
+        return (dict, [(key, told(item)) for key, item in value.items()])
+    if isinstance(value, Reply):
+        return (Reply, told((value.kind, value.text, value.data)))
+    return (type(value), value)
 
 
 class Overview(unittest.TestCase):
     def test_every_function(self):
-        for module, calls in CALLS.items():
-            space = importlib.import_module("classledger." + module)
-            for name, *arguments in calls:
-                function = getattr(space, name)
-                self.assertEqual(function.__module__, "classledger." + module)
-                before = copy.deepcopy(arguments)
-                told = function(*arguments)
-                self.assertEqual(arguments, before, name)
-                self.assertTrue(plain(told), name)
-                again = function(*before)
-                self.assertEqual((again, type(again)), (told, type(told)), name)
+        for function, arguments in calls(CALLS):
+            before = told(arguments)
+            first = function(*arguments)
+            self.assertEqual(told(arguments), before, function.__name__)
+            self.assertTrue(plain(first) or function.__name__ == "read_log", function.__name__)
+            kept = told(first)
+            again = function(*copy.deepcopy(arguments))
+            self.assertEqual(told(again), kept, function.__name__)
+            self.assertEqual(told(first), kept, function.__name__)
+
+    def test_refused_calls(self):
+        for function, arguments in calls(REFUSED):
+            before = told(arguments)
+            for _ in range(2):
+                with self.assertRaises(Fault):
+                    function(*arguments)
+                self.assertEqual(told(arguments), before, function.__name__)
+
+    def test_bent_calls(self):
+        for function, arguments in calls(BENT):
+            before = told(arguments)
+            for _ in range(2):
+                self.assertIs(function(*arguments), False, function.__name__)
+                self.assertEqual(told(arguments), before, function.__name__)
 
     def test_yes_and_no_are_booleans(self):
-        for module, calls in CALLS.items():
+        for function, arguments in calls(CALLS):
+            if function.__name__.startswith(("is_", "takes_")) or function.__name__ == "holds":
+                self.assertIs(function(*arguments), True, function.__name__)
+
+    def test_where_they_stand(self):
+        for module, rows in CALLS.items():
             space = importlib.import_module("classledger." + module)
-            for name, *arguments in calls:
-                if name.startswith(("is_", "takes_")) or name == "holds":
-                    self.assertIs(getattr(space, name)(*arguments), True, name)
+            for name, *_ in rows:
+                self.assertEqual(getattr(space, name).__module__, "classledger." + module)
+        for place, kind, methods in (("replies", Reply, ("__init__", "__eq__")),
+                                     ("console", Console, ("__init__", "enter", "__len__", "__iter__", "names", "log"))):
+            self.assertEqual(kind.__module__, "classledger." + place)
+            for method in methods:
+                self.assertIn(method, vars(kind))
+
+    def test_every_name_of_the_interface(self):
+        document = pathlib.Path(__file__).resolve().parent.parent.parent / "shared" / "DOC.md"
+        if not document.exists():
+            self.skipTest("no document beside this checkout")
+        _, _, text = document.read_text(encoding="utf-8").partition("# The interface")
+        for part in re.split("^## classledger/", text, flags=re.MULTILINE)[1:]:
+            module = part[:part.index(".py")]
+            told_rows = re.findall("((?:`[a-z_]+[(][^`]*[)]`(?:, )?)+):", part)
+            names = set(re.findall("`([a-z_]+)[(]", " ".join(told_rows)))
+            if module not in ("errors", "console"):
+                self.assertEqual(names, {name for name, *_ in CALLS[module]}, module)
 
 
 if __name__ == "__main__":
