@@ -2,7 +2,6 @@
 
 from math import gcd
 
-from classledger.alike import changed
 from classledger.curves import check_curve, check_points, told_twist
 from classledger.errors import Malformed
 from classledger.groups import point_logarithm, whole_group
@@ -52,14 +51,12 @@ def alike_paper(one, two):
         return ("zero",)
     if a and b and (a * a * a * d * d - c * c * c * b * b) % p:
         return ("unlike",)
-    for u in _told_changes(one, two):
-        if changed(one, u) == two:
-            return ("same", u)
-    return ("power",)
+    changes = _told_changes(one, two)
+    return ("same", changes[0]) if changes else ("power",)
 
 
 def _told_changes(one, two):
-    """Return some integers, among them one that makes the one curve the other one, if there is one."""
+    """Return a list of integers that make the one curve the other one; where it is empty, there is none."""
     p, a, b = one
     _, c, d = two
     if a and b:

@@ -2,7 +2,8 @@
 
 from classledger.classes import check_primitive, class_group, class_list
 from classledger.compose import check_pair, composing_rows, composition
-from classledger.cycles import check_cyclic, check_walked, lead, walk
+from classledger.cycles import check_cyclic, check_walked, lead, walk, with_turn
+from classledger.definite import reduction
 from classledger.errors import Malformed, Refused
 from classledger.formchecker import last_exponent, strides_of
 from classledger.forms import (
@@ -37,14 +38,24 @@ def same_paper(f, g):
 
 def _same(f, g):
     """Return the paper of same_paper, for items of any size."""
-    one, m = told_by_steps(f)
-    two, n = told_by_steps(g)
-    if one == two:
-        return ("same", matrix_product(m, inverse_matrix(n)))
-    if told_discriminant(f) < 0:
-        return ("apart", m, n)
-    _, turns = walk(one)
-    return ("apart", m, tuple(turns), n)
+    if told_discriminant(f) > 0:
+        return _same_by_steps(f, g)
+    one, m = reduction(f)
+    two, n = reduction(g)
+    return ("same", matrix_product(m, inverse_matrix(n))) if one == two else ("apart", m, n)
+
+
+def _same_by_steps(f, g):
+    """Return the paper of same_paper for indefinite forms."""
+    one, m = lead(f)
+    two, n = lead(g)
+    forms, turns = walk(one)
+    if two not in forms:
+        return ("apart", m, tuple(turns), n)
+    # On from the one form to the other: by way of the told form the matrix could be twice as long.
+    for t in turns[:forms.index(two)]:
+        m = with_turn(m, t)
+    return ("same", matrix_product(m, inverse_matrix(n)))
 
 
 def value_paper(f, n):

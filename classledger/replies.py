@@ -58,11 +58,8 @@ class Reply:
 
 
 def _names_of(command):
-    """Return the tuple of the names that a command uses."""
-    word = command[0]
-    if word in ("form", "curve"):
-        return ()
-    first = 2 if word in ("product", "twist") else 1
+    """Return the tuple of the names that a command uses, NAME left out."""
+    first = 2 if command[0] in ("product", "twist") else 1
     return tuple([item for item in command[first:] if isinstance(item, str)])
 
 

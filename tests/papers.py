@@ -1,6 +1,8 @@
 """The conditions of the papers of points 2.5 and 2.8, by loops of their own."""
 
+import itertools
 import math
+import unittest
 
 from tests import slow
 
@@ -56,6 +58,7 @@ def bends(value):
     """Yield the values that are bent at one place: no paper that holds stays one."""
     yield None
     if type(value) is tuple:
+        yield 7
         yield list(value)
         yield value + (None,)
         yield value + ((),)
@@ -111,3 +114,25 @@ NO_PAPERS = (
     ("trace", 1, (None,)), ("trace", -24, [()]), slow.nested(60), (slow.nested(59), 1), ValueError("paper"), Other(),
     (Other(), Other()), ("same", Other()), (Other(),), b"small", {"small": 1}, 1.5,
 )
+
+
+class Judged(unittest.TestCase):
+    """Tests of judges: what they take, and what they do not."""
+
+    def takes(self, judge, *arguments):
+        self.assertIs(judge(*arguments), True, (judge.__name__, arguments))
+
+    def bars(self, judge, *arguments):
+        self.assertIs(judge(*arguments), False, (judge.__name__, arguments))
+
+    def check_bent(self, judge, *arguments):
+        """Bend a paper that holds at each place: it holds no more."""
+        *told, paper = arguments
+        self.takes(judge, *arguments)
+        for bent in itertools.chain(bends(paper), shorter(paper)):
+            self.bars(judge, *told, bent)
+
+    def check_values(self, judge, *arguments):
+        """Try all values that are no paper."""
+        for value in NO_PAPERS:
+            self.bars(judge, *arguments, value)

@@ -120,6 +120,8 @@ class Weights(unittest.TestCase):
     def test_doubly_even_and_self_dual(self):
         chance = random.Random(143)
         tables = [code_of(random_words(chance, n, chance.randrange(0, 7)), n) for n in range(1, 13) for _ in range(12)]
+        # All weights are multiples of 4, but the words meet in one place.
+        tables += [((1, 1, 1, 0, 1, 0, 0), (0, 0, 0, 1, 1, 1, 1))]
         tables += [(), ((1, 1),), ((1, 1, 1, 1),), ((1, 0),), ((1, 1, 0, 0), (0, 0, 1, 1)),
                    ((1, 1, 0, 0, 1, 1), (0, 0, 1, 1, 1, 1)), ((1, 1, 1, 0, 1, 1, 1), (0, 0, 0, 1, 1, 1, 1))]
         tables += [code_of(chance.choices(small_code(), k=3), 8) for _ in range(5)]

@@ -6,6 +6,7 @@ from classledger.console import Console
 from classledger.errors import Refused
 from classledger.log import first_wrong, read_log
 from classledger.replies import Reply
+from tests import slow
 from tests.test_replies import ERRORS, PAPERS, PLAIN, WALKS
 from tests.test_sheet import LINES
 
@@ -114,6 +115,19 @@ class Consoles(unittest.TestCase):
             "> form f = 2 1 3", "= form 2 1 3", "# ()", "> value f 5", "= value no", "# (none ())", "> ", "= done ", "# ()",
             "> show x", "= error refused name", "# ()", ""])
         self.assertEqual(read_log(console.log()), list(console))
+
+    def test_long_units(self):
+        # One of the longest units: the integers of all papers still have a written form.
+        D = 994249
+        cycle = slow.cycle(slow.near(slow.principal(D)))
+        console = Console()
+        for name, f in (("a", cycle[0]), ("b", cycle[1]), ("c", cycle[-1])):
+            console.enter("form {} = {} {} {}".format(name, *f))
+        for line in (f"unit {D}", f"minus {D}", "alike a b", "alike b a", "alike c a", "alike b c", "product d b c", "cycle a",
+                     f"value a {cycle[1][0]}", f"value b {cycle[0][0]}", f"value b {cycle[-1][0]}"):
+            self.assertNotEqual(console.enter(line).kind, "error", line)
+        self.assertGreater(len(console.log()), 10000)
+        self.assertEqual(first_wrong(read_log(console.log())), -1)
 
     def test_every_line(self):
         console = Console()

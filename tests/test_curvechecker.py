@@ -10,7 +10,7 @@ from classledger.curvepapers import alike_paper, log_paper, number_paper, order_
 from classledger.curves import point_multiple, points_at, twist_of
 from classledger.groups import is_point_group
 from tests import slow
-from tests.papers import NO_PAPERS, bends, shorter
+from tests.papers import NO_PAPERS, Judged
 from tests.test_curves import NO_CURVES, NO_POINTS
 from tests.test_forms import malformed
 
@@ -31,20 +31,6 @@ def point_of(curve, least=0):
 def prime_factors(n):
     """Return the ascending tuple of the primes that divide n."""
     return tuple(q for q, _ in slow.factors(n))
-
-
-class Judged(unittest.TestCase):
-    def takes(self, judge, *arguments):
-        self.assertIs(judge(*arguments), True, (judge.__name__, arguments))
-
-    def bars(self, judge, *arguments):
-        self.assertIs(judge(*arguments), False, (judge.__name__, arguments))
-
-    def check_bent(self, judge, *arguments):
-        *told, paper = arguments
-        self.takes(judge, *arguments)
-        for bent in itertools.chain(bends(paper), shorter(paper)):
-            self.bars(judge, *told, bent)
 
 
 class Orders(Judged):
@@ -172,6 +158,12 @@ class Numbers(Judged):
                       (G + (0,), n, H, m), ((G[0] + curve[0], G[1]), n, H, m), ((G[0], G[1] - curve[0]), n, H, m),
                       (list(G), n, H, m), (G, n, (H[0], True), m), (G, n, [], m)):
             self.bars(takes_number, curve, ("number", wrong, two))
+        # Each point in the place of G and of H.
+        groups = groups_of(curve)
+        for R in slow.points(curve):
+            for told in ((G, n, R, m), (R, n, H, m), (R, n, G, m), (H, n, R, m), (G, 2 * n, R, 1), (R, 2 * n, (), 1)):
+                fits = told in groups and told[1] * told[3] == n * m
+                self.assertIs(takes_number(curve, ("number", told, two)), fits)
         # A point of the twist, and twists by other numbers.
         self.bars(takes_number, curve, ("number", (two[0],) + (n, H, m), two))
         self.bars(takes_number, curve, ("number", (G, n, H, m), (G, n, H, m)))
@@ -324,7 +316,8 @@ class Alike(Judged):
 
     def test_power_for_each_pattern(self):
         # Primes that are 1, 5, 7 and 11 modulo 12, with squares that are no fourth and no sixth powers.
-        for p in (37, 29, 31, 23):
+        # In the last three 9 divides p - 1, and 2 is a cube modulo two of them.
+        for p in (37, 29, 31, 23, 19, 109, 127):
             for one, patterns in (((p, 1, 0), 4), ((p, 0, 1), 6), ((p, 3, 2), 2)):
                 for d in range(1, p):
                     two = (p, one[1] * d * d % p, one[2] * d ** 3 % p) if patterns == 2 else (

@@ -12,7 +12,7 @@ from classledger.formpapers import (
     classes_paper, composed_paper, minus_paper, same_paper, square_paper, unit_paper, value_paper)
 from classledger.forms import is_discriminant
 from tests import slow
-from tests.papers import NO_PAPERS, bends, shorter
+from tests.papers import Judged
 from tests.test_forms import random_matrix
 
 UNIT = ((1, 0), (0, 1))
@@ -88,26 +88,6 @@ def all_forms(D):
 def primitive(D):
     """Return a form of each class of D."""
     return [f for f in slow.primitive(D)]
-
-
-class Judged(unittest.TestCase):
-    def takes(self, judge, *arguments):
-        self.assertIs(judge(*arguments), True, (judge.__name__, arguments))
-
-    def bars(self, judge, *arguments):
-        self.assertIs(judge(*arguments), False, (judge.__name__, arguments))
-
-    def check_bent(self, judge, *arguments):
-        """Bend a paper that holds at each place: it holds no more."""
-        *told, paper = arguments
-        self.takes(judge, *arguments)
-        for bent in itertools.chain(bends(paper), shorter(paper)):
-            self.bars(judge, *told, bent)
-
-    def check_values(self, judge, *arguments):
-        """Try all values that are no paper."""
-        for value in NO_PAPERS:
-            self.bars(judge, *arguments, value)
 
 
 class Same(Judged):
@@ -301,6 +281,12 @@ class Values(Judged):
             # Those with the most roots, and one without any.
             told.extend((f, n) for _, f, n in sorted(found)[-4:] + sorted(found)[:1])
         return told
+
+    def test_roots_of_one_and_zero(self):
+        for f, n, root in (((2, 1, 3), 1, 1), ((2, 4, -3), 1, 0), ((2, 2, 3), 1, 0), ((2, 1, 2), 1, 1)):
+            paper = value_paper(f, n)
+            self.assertEqual([b for b, _ in paper[1]], [root])
+            self.check_bent(takes_value, f, n, paper)
 
     def test_none_of_another_maker(self):
         # Other forms of the cycle, other matrices.
@@ -565,8 +551,30 @@ class Classes(Judged):
             if generators is None:
                 generators = tuple(f for f in primitive(D) if f != slow.told(slow.principal(D)))[:len(orders)]
             self.bars(takes_classes, D, made_classes(D, orders, generators))
+        # The principal class as a generator of the order 1, and orders that do not divide one another.
+        for D in (-23, -84, 60, 145):
+            orders, generators = classes_paper(D)[1:3]
+            first = slow.told(slow.principal(D))
+            self.bars(takes_classes, D, made_classes(D, (1,) + orders, (first,) + generators))
+            self.takes(takes_classes, D, made_classes(D, orders, generators))
+        for D in (-104, -200, -239):
+            (order,), (f,) = classes_paper(D)[1:3]
+            self.takes(takes_classes, D, made_classes(D, (order,), (f,)))
+            for one in [d for d in slow.divisors(order) if math.gcd(d, order // d) == 1 and 1 < d < order]:
+                parts = [f] * 2
+                for at, times in enumerate((order // one, one)):
+                    for _ in range(times - 1):
+                        parts[at] = slow.product(parts[at], f)
+                self.bars(takes_classes, D, made_classes(D, (one, order // one), parts))
         for D in (-3, -4, -7, -163, 5, 8, 13):
-            self.takes(takes_classes, D, made_classes(D, (), ()))
+            paper = made_classes(D, (), ())
+            self.takes(takes_classes, D, paper)
+            # More rows of exponents than forms.
+            f = slow.told(slow.principal(D))
+            for orders in ((2,), (2, 2), (3,)):
+                wraps = ((composing_rows(f, f) + (UNIT,)),) * len(orders)
+                self.bars(takes_classes, D, ("classes", orders, (f,) * len(orders), paper[3], wraps))
+                self.bars(takes_classes, D, ("classes", orders, (f,) * len(orders), (), wraps))
 
     def test_each_condition(self):
         for D in (-84, -260, 60, 145):
@@ -660,14 +668,19 @@ class Squares(Judged):
         for g in ((2, 0, 42), (1, 0, 5), (1, 6, -1), (-1, 0, -21), (0, 0, 0), (1, 0, True)):
             self.bars(takes_square, f, ("root", g, (1, 0, 0, -21), (0, 1, 1, 0), UNIT))
         self.takes(takes_square, f, ("root", f, (1, 0, 0, -21), (0, 1, 1, 0), UNIT))
+        # These rows compose (2, 2, 2) with itself, and the composition is the primitive form (1, 0, 3).
+        p, q = (2, 1, 1, -1), (0, 1, 1, 1)
+        self.assertEqual(composition(p, q), ((2, 2, 2), (2, 2, 2), (1, 0, 3)))
+        self.bars(takes_square, (1, 0, 3), ("root", (2, 2, 2), p, q, UNIT))
+        self.takes(takes_square, (1, 0, 3), ("root", (1, 0, 3), (1, 0, 0, -3), (0, 1, 1, 0), UNIT))
 
     def test_sign(self):
-        for D in (-84, -23, -260, 40, 60, 145, 136, -20, -56, 24):
+        for D in (-84, -23, -260, 40, 60, 145, 136, -20, -56, 24, -143, 85):
             signs = slow.signs(D)
             for f in primitive(D):
                 for x, y in itertools.product(range(-4, 5), repeat=2):
                     v = slow.at(f, x, y)
-                    for d in set(signs) | {-signs[0], 1, -1, 5, -4, 8, -8, D, 0}:
+                    for d in set(signs) | set(range(-12, 13)) | {D, -D, 29, -29}:
                         fits = v > 0 and math.gcd(v, 2 * D) == 1 and d in signs and slow.sign(d, v) == -1
                         self.assertIs(takes_square(f, ("sign", x, y, d)), fits, (f, x, y, d))
 

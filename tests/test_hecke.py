@@ -234,6 +234,8 @@ class Polynomials(unittest.TestCase):
             self.assertEqual(from_traces(power_traces(k, 2, d)), characteristic(hecke_matrix(k, 2)))
 
     def test_no_traces(self):
+        for value in (None, True, 1, "1", [1, 3], (1, None), (True,), ((1,),), slow.nested(60)):
+            malformed(self, from_traces, value)
         for traces in ((1, 2), (0, 1), (0, 0, 1), (0, 0, 2), (2, 4, 9), (0, 0, 0, 2), (1, 2, 1)):
             refused(self, "traces", from_traces, traces)
         self.assertEqual(from_traces((0, 2, 3)), (1, 0, -1, -1))

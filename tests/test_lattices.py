@@ -346,6 +346,14 @@ class ShortRows(unittest.TestCase):
                     self.assertEqual(len(short_rows(table, 2 * m)), many)
                     self.assertEqual(theta_of_table(table, m + 1), tuple(ways[:m + 1]))
 
+    def test_twenty_thousand(self):
+        items = (2, 2, 2, 2, 4, 14, 14, 16)
+        table = tuple(tuple(items[i] if i == j else 0 for j in range(8)) for i in range(8))
+        self.assertEqual(len(short_rows(table, 38)), 20000)
+        self.assertEqual(sum(theta_of_table(table, 20)), 20001)
+        refused(self, "many", short_rows, table, 40)
+        refused(self, "many", theta_of_table, table, 21)
+
     def test_errors(self):
         for value in NO_TABLES:
             malformed(self, short_rows, value, 2)

@@ -258,6 +258,9 @@ class Primes(unittest.TestCase):
                 for q in {order, 7, 11, 13} - {0, 1}:
                     fits = q == order and slow.is_prime(q) and q > (least + 1) ** 2
                     self.assertIs(takes_prime(n, ("curve", a, x, y, q, SMALL)), fits, (n, a, x, y, q))
+                    if fits:
+                        for items in ((a + n, x, y), (a, x + n, y), (a, x, y + n), (a - n, x, y), (a, x - n, y), (a, x, y - n)):
+                            self.bars(n, ("curve",) + items + (q, SMALL))
                     told += fits
         self.assertGreater(told, 100)
 

@@ -54,6 +54,7 @@ PAPERS = {
     "prime 91": ("no", takes_prime, 91), "prime 97": ("yes", takes_prime, 97), "prime 1000003": ("yes", takes_prime, 1000003),
     "prime 2": ("yes", takes_prime, 2), "factors 12": ("2^2 3^1", takes_factors, 12), "factors 1": ("1", takes_factors, 1),
     "factors 1000003": ("1000003^1", takes_factors, 1000003), "factors 360": ("2^3 3^2 5^1", takes_factors, 360),
+    "squares 2 1": ("yes", takes_two, 1), "squares 3 1": ("yes", takes_three, 1), "squares 4 1": ("yes", takes_four, 1),
     "squares 2 50": ("yes", takes_two, 50), "squares 2 21": ("no", takes_two, 21), "squares 3 14": ("yes", takes_three, 14),
     "squares 3 28": ("no", takes_three, 28), "squares 4 7": ("yes", takes_four, 7), "trace 12 2": ("-24", takes_trace, 12, 2),
     "trace 4 3": ("0", takes_trace, 4, 3), "trace 24 2": ("1080", takes_trace, 24, 2),
@@ -229,6 +230,10 @@ class Right(unittest.TestCase):
                 ["tau 6", reply], ("tau 6",), ("tau 6", reply, reply), (reply, "tau 6"), ("tau 6", "-6048"), reply,
                 ("tau 6", ("number", "-6048", ())), ("tau 6", None), {"tau 6": reply}, ("tau 6", [reply])):
             self.assertIs(is_right(NAMES, value), False)
+        for line in itertools.chain(PLAIN, PAPERS, ERRORS, WALKS):
+            told = reply_to(NAMES, line)
+            for value in (None, told.kind, (told.kind, told.text, told.data), [told], (told,), line):
+                self.assertIs(is_right(NAMES, (line, value)), False)
 
     def test_spoilt_papers(self):
         for line in PAPERS:
@@ -319,6 +324,13 @@ class Right(unittest.TestCase):
                     if len(longer) > len(walk):
                         self.wrong(text, Reply("walk", str(len(longer) - 1), longer))
                         self.wrong(text, Reply("walk", str(near[end]), longer))
+                for u in near:
+                    # Walks of the same length that begin elsewhere.
+                    for walk in walks[:2]:
+                        if u != start:
+                            self.wrong(text, Reply("walk", str(near[end]), (u,) + walk[1:]))
+                        if u != end:
+                            self.wrong(text, Reply("walk", str(near[end]), walk[:-1] + (u,)))
                 for at in range(1, near[end]):
                     # A step that is none in the midst of the walk.
                     for v in list(near)[:6]:

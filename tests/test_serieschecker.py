@@ -9,7 +9,7 @@ from classledger.level import generators
 from classledger.serieschecker import takes_goes, takes_trace
 from classledger.seriespapers import goes_paper, trace_paper
 from tests import slow
-from tests.papers import NO_PAPERS, bends, shorter
+from tests.papers import NO_PAPERS, Judged
 from tests.test_forms import malformed
 from tests.test_level import NO_WEIGHTS, cusps
 from tests.test_primes import refused
@@ -28,20 +28,6 @@ def combined(row, k, size):
 def changed(row, at, by):
     """Return a row with one item changed."""
     return row[:at] + (row[at] + by,) + row[at + 1:]
-
-
-class Judged(unittest.TestCase):
-    def takes(self, judge, *arguments):
-        self.assertIs(judge(*arguments), True, (judge.__name__, arguments))
-
-    def bars(self, judge, *arguments):
-        self.assertIs(judge(*arguments), False, (judge.__name__, arguments))
-
-    def check_bent(self, judge, *arguments):
-        *told, paper = arguments
-        self.takes(judge, *arguments)
-        for bent in itertools.chain(bends(paper), shorter(paper)):
-            self.bars(judge, *told, bent)
 
 
 class Goes(Judged):

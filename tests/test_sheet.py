@@ -71,6 +71,17 @@ class Lines(unittest.TestCase):
         for line in (" #", " # form f = 2 1 3", "form f = 2 1 3 #", "show #", "show f#"):
             self.bars(line)
 
+    def test_signs(self):
+        every = "".join(map(chr, range(32, 127)))
+        self.assertEqual(read_line("#" + every), ("empty",))
+        for sign in every:
+            self.assertEqual(read_line("# " + sign), ("empty",))
+            if sign not in "# ":
+                self.bars(sign + "# ")
+        for number in list(range(32)) + [127, 128, 160, 255, 0x2003, 0x10ffff, 0xd800]:
+            self.bars("#" + chr(number))
+            self.bars(chr(number))
+
     def test_spaces(self):
         chance = random.Random(161)
         for line, told in LINES.items():
