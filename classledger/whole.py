@@ -133,10 +133,14 @@ def _is_small_prime(p):
 
 def inverse(a, m):
     """Return the inverse of a modulo m, or None."""
-    g, u, _ = combination(a % m, m)
-    if g != 1:
-        return None
-    return u % m
+    # As in combination, but the multiples of m need not be known.
+    g, u = m, 0
+    h, s = a % m, 1
+    while h:
+        q, left = divmod(g, h)
+        g, h = h, left
+        u, s = s, u - q * s
+    return u % m if g == 1 else None
 
 
 def power(a, e, m):

@@ -2,8 +2,6 @@
 
 import copy
 import importlib
-import pathlib
-import re
 import unittest
 
 from classledger.console import Console
@@ -211,18 +209,6 @@ class Overview(unittest.TestCase):
             self.assertEqual(kind.__module__, "classledger." + place)
             for method in methods:
                 self.assertIn(method, vars(kind))
-
-    def test_every_name_of_the_interface(self):
-        document = pathlib.Path(__file__).resolve().parent.parent.parent / "shared" / "DOC.md"
-        if not document.exists():
-            self.skipTest("no document beside this checkout")
-        _, _, text = document.read_text(encoding="utf-8").partition("# The interface")
-        for part in re.split("^## classledger/", text, flags=re.MULTILINE)[1:]:
-            module = part[:part.index(".py")]
-            told_rows = re.findall("((?:`[a-z_]+[(][^`]*[)]`(?:, )?)+):", part)
-            names = set(re.findall("`([a-z_]+)[(]", " ".join(told_rows)))
-            if module not in ("errors", "console"):
-                self.assertEqual(names, {name for name, *_ in CALLS[module]}, module)
 
 
 if __name__ == "__main__":
