@@ -207,15 +207,15 @@ def graph_walk(p, l, j, k):
     neighbours = _neighbours(p, l, members)
     # From k on, so that each item knows the next one of the walk.
     ahead = {k: None}
-    layer = [k]
+    reached = [k]
+    at = 0
     while j not in ahead:
-        later = []
-        for u in layer:
-            for v in neighbours[u]:
-                if v not in ahead:
-                    ahead[v] = u
-                    later.append(v)
-        layer = later
+        u = reached[at]
+        at += 1
+        for v in neighbours[u]:
+            if v not in ahead:
+                ahead[v] = u
+                reached.append(v)
     walk = [j]
     while ahead[walk[-1]] is not None:
         walk.append(ahead[walk[-1]])

@@ -31,6 +31,11 @@ STATEMENTS = (
     ast.If, ast.With, ast.Raise, ast.Try, ast.Assert, ast.ImportFrom, ast.Nonlocal, ast.Expr, ast.Pass, ast.Break,
     ast.Continue, ast.Match)
 TAKERS = {"list", "tuple", "dict", "sorted", "sum", "min", "max", "any", "all"}
+VIEWS = {"enumerate", "zip", "reversed", "map", "iter"}
+CHANGERS = set("append clear extend insert pop remove reverse setdefault update add discard sort popleft appendleft "
+               "extendleft rotate".split())
+HEAPS = {"heappush", "heappop", "heapify", "heapreplace", "heappushpop"}
+COMPREHENSIONS = (ast.ListComp, ast.SetComp, ast.DictComp, ast.GeneratorExp)
 
 
 def trees():
@@ -61,6 +66,79 @@ def starred(value):
     if isinstance(value, ast.Dict):
         return all(map(starred, value.keys + value.values))
     return isinstance(value, ast.Constant) or named(value)
+
+
+def bases(value):
+    """Return the names whose list an expression may be, or may be a part of: by name, field, item, choice or view."""
+    parts = []
+    if isinstance(value, ast.Name):
+        return {value.id}
+    if isinstance(value, (ast.Attribute, ast.Subscript, ast.Starred, ast.NamedExpr)):
+        parts = [value.value]
+    elif isinstance(value, ast.IfExp):
+        parts = [value.body, value.orelse]
+    elif isinstance(value, ast.BoolOp):
+        parts = value.values
+    elif isinstance(value, (ast.Tuple, ast.List)):
+        parts = value.elts
+    elif isinstance(value, ast.Call) and isinstance(value.func, ast.Name) and value.func.id in VIEWS:
+        parts = value.args
+    elif isinstance(value, ast.Call) and isinstance(value.func, ast.Attribute):
+        parts = [value.func.value] if value.func.attr in ("items", "keys", "values") else []
+    return set().union(*map(bases, parts))
+
+
+def given(part):
+    """Return the pairs of a target and the value that a statement or an expression gives it."""
+    if not isinstance(part, (ast.Assign, ast.AnnAssign, ast.NamedExpr)):
+        return []
+    pairs = []
+    for target in part.targets if isinstance(part, ast.Assign) else [part.target]:
+        if isinstance(target, ast.Tuple) and isinstance(part.value, ast.Tuple):
+            pairs.extend(zip(target.elts, part.value.elts))
+        else:
+            pairs.append((target, part.value))
+    return pairs
+
+
+def one_list(function):
+    """Return the sets of names of a function that may stand for one list, because one is given the other."""
+    groups = []
+    for part in ast.walk(function):
+        for target, value in given(part):
+            group = bases(target) | bases(value)
+            near = [other for other in groups if other & group]
+            groups = [other for other in groups if other not in near] + [group.union(*near)]
+    return groups
+
+
+def changes(parts):
+    """Yield the row of each change to a list, a dict or a set, and the names that may stand for it."""
+    for part in [row for part in parts for row in ast.walk(part)]:
+        if isinstance(part, ast.Call) and isinstance(part.func, ast.Attribute) and part.func.attr in CHANGERS:
+            yield part.lineno, bases(part.func.value)
+        elif isinstance(part, ast.Call) and isinstance(part.func, ast.Name) and part.func.id in HEAPS:
+            yield part.lineno, bases(part.args[0])
+        elif isinstance(part, ast.AugAssign):
+            yield part.lineno, bases(part.target)
+        elif isinstance(part, (ast.Subscript, ast.Attribute)) and not isinstance(part.ctx, ast.Load):
+            yield part.lineno, bases(part)
+
+
+def changed_while_walked(function):
+    """Return the rows of a function that change what a loop or a comprehension around them walks."""
+    rows = set()
+    groups = one_list(function)
+    for part in ast.walk(function):
+        if isinstance(part, ast.For):
+            walked, inside = bases(part.iter), part.body
+        elif isinstance(part, COMPREHENSIONS):
+            walked, inside = set().union(*[bases(row.iter) for row in part.generators]), [part]
+        else:
+            continue
+        walked = walked.union(*[group for group in groups if group & walked])
+        rows.update([row for row, names in changes(inside) if names & walked])
+    return sorted(rows)
 
 
 class Files(unittest.TestCase):
@@ -221,6 +299,45 @@ class Parts(unittest.TestCase):
                            ("g(x)", False), ("x[0]", False), ("(x, g(x))", False), ("x + y", False),
                            ("[a for a in x]", False), ("g(x).y", False), ("x if y else z", False)):
             self.assertEqual(starred(ast.parse(text, mode="eval").body), fits, text)
+
+    def test_loops(self):
+        """What a loop or a comprehension walks is not changed in it, by any of the names that it has."""
+        for path, _, tree in trees():
+            for part in ast.walk(tree):
+                if isinstance(part, ast.FunctionDef):
+                    self.assertEqual(changed_while_walked(part), [], (path, part.name))
+
+    def test_loops_are_told(self):
+        for rows, told in (
+                (("for x in xs:", " xs.append(x)"), [3]),
+                (("for x in xs:", " xs[0] = x"), [3]),
+                (("for x in xs:", " del xs[0]"), [3]),
+                (("for x in xs:", " xs += [x]"), [3]),
+                (("for x in xs:", " heappush(xs, x)"), [3]),
+                (("for x in xs:", " for y in ys:", "  xs.pop()", " ys.pop()"), [4]),
+                (("for k, x in enumerate(xs):", " xs.pop()"), [3]),
+                (("for k in d.items():", " d.clear()"), [3]),
+                (("for x in a.xs:", " a.xs.append(x)"), [3]),
+                (("for x in rows[0]:", " rows[0].append(x)"), [3]),
+                (("for x in xs if n else ys:", " ys.append(x)"), [3]),
+                (("for x in xs or ys:", " xs.append(x)"), [3]),
+                (("ys = xs", "for x in ys:", " xs.append(x)"), [4]),
+                (("ys = a.xs", "for x in ys:", " a.xs.append(x)"), [4]),
+                (("xs, ys = ys, zs", "for x in zs:", " ys.append(x)"), [4]),
+                (("ys = xs", "zs = ys", "for x in zs:", " xs.append(x)"), [5]),
+                (("while n:", " later = []", " for x in xs:", "  later.append(x)", " xs = later"), [5]),
+                (("return [xs.pop() for x in xs]",), [2]),
+                (("for x in list(xs):", " xs.append(x)"), []),
+                (("ys = list(xs)", "for x in xs:", " ys.append(x)"), []),
+                (("for x in xs:", " ys.append(x)"), []),
+                (("for x in xs:", " n += x"), []),
+                (("for x in xs:", " x.append(n)"), []),
+                (("for x in rows[n]:", " seen[x] = n"), []),
+                (("for x in xs:", " pass", "xs.append(n)"), []),
+                (("while n < len(xs):", " x = xs[n]", " xs.append(x)"), []),
+                (("return [x for x in xs]",), [])):
+            text = "\n".join(["def told(a, n, d, x, xs, ys, zs, rows, seen):"] + [" " + row for row in rows])
+            self.assertEqual(changed_while_walked(ast.parse(text).body[0]), told, text)
 
     def test_beside_a_class_that_compares(self):
         """The package has a class with __eq__: no generator expression, and nothing is sorted in its place."""
